@@ -1,0 +1,1 @@
+"""Hookvows: what a host surely does, whatever parts are hooked into it."""
