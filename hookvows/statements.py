@@ -60,6 +60,12 @@ class Put(Statement):
         """The value that the box is given."""
         return self._value
 
+    @value.setter
+    def value(self, value):
+        """Never: a statement does not change."""
+        # Other classes have an attribute of this name, which is why L5 asks for a setter.
+        raise AttributeError("value")
+
     def bodies(self):
         """No bodies."""
         return []
@@ -137,6 +143,12 @@ class If(Statement):
     def value(self):
         """The value with which the body is done."""
         return self._value
+
+    @value.setter
+    def value(self, value):
+        """Never: a statement does not change."""
+        # Other classes have an attribute of this name, which is why L5 asks for a setter.
+        raise AttributeError("value")
 
     def bodies(self):
         """The body, and the other body."""

@@ -9,6 +9,8 @@ import pathlib
 import re
 import unittest
 
+from tests.form_rules import assigned_without_setter
+
 PACKAGE = pathlib.Path(__file__).resolve().parent.parent / "hookvows"
 FILES = sorted(PACKAGE.rglob("*.py"))
 
@@ -211,3 +213,7 @@ class TestForm(unittest.TestCase):
                 private = isinstance(node, ast.FunctionDef) and node.name.startswith("_")
                 if isinstance(node, (ast.FunctionDef, ast.ClassDef)) and not private:
                     self.assertTrue(ast.get_docstring(node), (path, node.name))
+
+    def test_assigned_properties_have_setters(self):
+        trees = {path.name: tree for path, _, tree in self.each()}
+        self.assertEqual(assigned_without_setter(trees), [])
