@@ -30,6 +30,11 @@ def is_below(value, limit):
     return is_count(value) and value < limit
 
 
+def is_list(value):
+    """Whether any value is a list, or a tuple, which is accepted as well."""
+    return isinstance(value, (list, tuple))
+
+
 def checked_name(value):
     """The value itself, if it is a NAME."""
     if not is_name(value):
