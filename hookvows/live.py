@@ -167,12 +167,11 @@ class Part:
         self._action = action
 
     def visit(self, turn):
-        """Does what the part does in a visit, or tells the acts of it that are still to be done."""
-        action = self._action
+        """The acts of the part in this visit, if a Driver tells them; otherwise its action is asked for."""
         # The rows of a Driver are left to the run itself, which can be as deep as it likes then.
-        if isinstance(action, Driver):
-            return action.next_row()
-        action(Visit(turn))
+        if isinstance(self._action, Driver):
+            return self._action.next_row()
+        turn.ask(self._action, Visit(turn))
         return []
 
 

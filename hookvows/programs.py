@@ -46,17 +46,17 @@ class Program:
 
     def _place_of(self, statement, well, failed):
         if isinstance(statement, Do):
-            return self._added("do", statement.step, 0, well, failed)
+            return self._new_point("do", statement.step, 0, well, failed)
         if isinstance(statement, Put):
-            return self._added("put", statement.box, statement.value, well, failed)
+            return self._new_point("put", statement.box, statement.value, well, failed)
         if isinstance(statement, Fire):
-            return self._added("fire", statement.hook, 0, well, failed)
+            return self._new_point("fire", statement.hook, 0, well, failed)
         if isinstance(statement, Call):
-            return self._added("call", statement.deed, 0, well, failed)
+            return self._new_point("call", statement.deed, 0, well, failed)
         if isinstance(statement, If):
             body, other = statement.bodies()
             then, otherwise = self._entry(body, well, failed), self._entry(other, well, failed)
-            return self._added("if", statement.box, statement.value, then, otherwise)
+            return self._new_point("if", statement.box, statement.value, then, otherwise)
         if isinstance(statement, Last):
             body, last = statement.bodies()
             # The body last stands twice: it can not tell by itself whether the body failed.
@@ -69,6 +69,6 @@ class Program:
         # What is left is Fail.
         return failed
 
-    def _added(self, word, name, number, well, failed):
+    def _new_point(self, word, name, number, well, failed):
         self._points.append((word, name, number, well, failed))
         return len(self._points) - 1

@@ -1,7 +1,7 @@
 """The firings of hooks, and the visits of the parts at them.
 
-A part has an attribute at_rank and a method visit(turn). The method does what the part does in this visit, by the
-methods of the turn, or it returns a list of acts, which are done then.
+A part has an attribute at_rank and a method visit(turn), which returns a list of acts that are done then. Instead it
+may ask, by the turn, for an action to be called that does its acts by the methods of the turn.
 """
 
 from hookvows.hosts import RANKS
@@ -199,8 +199,17 @@ class Turn:
         depth = self._work.depth()
         if not self.start(act):
             return None
-        self._work.go_down_to(depth)
+        # An action is called right here: each call between two of them would take from how deep they can go.
+        while self._work.depth() > depth:
+            asked = self._work.go_on()
+            if asked is not None:
+                action, visit = asked
+                action(visit)
         return None if self._firing.has_ended() else self._answer
+
+    def ask(self, action, visit):
+        """Asks for the action, which is called with this visit."""
+        self._work.ask(action, visit)
 
     def look(self):
         """Looks, and tells the present state; None if the visit is over."""

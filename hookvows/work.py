@@ -21,16 +21,27 @@ class Work:
         self._trace = []
         self._rows = []
         self._frames = []
+        self._asked = None
 
     def run(self, deed):
         """Runs the deed from the present state."""
         self.start_deed(deed)
-        self.go_down_to(0)
+        while len(self._frames) > 0:
+            asked = self.go_on()
+            if asked is not None:
+                action, visit = asked
+                action(visit)
 
-    def go_down_to(self, depth):
-        """Goes on until no more frames than these are open."""
-        while len(self._frames) > depth:
-            self._frames[-1].go()
+    def go_on(self):
+        """Lets the last frame go on; the action that it asks for, with its visit, or None."""
+        self._frames[-1].go()
+        asked = self._asked
+        self._asked = None
+        return asked
+
+    def ask(self, action, visit):
+        """Asks for the action, which is called with this visit as soon as the last frame has gone on."""
+        self._asked = (action, visit)
 
     def depth(self):
         """How many frames are open."""

@@ -9,7 +9,7 @@ import pathlib
 import re
 import unittest
 
-from tests.form_rules import assigned_without_setter
+from tests import form_effects, form_rules
 
 PACKAGE = pathlib.Path(__file__).resolve().parent.parent / "hookvows"
 FILES = sorted(PACKAGE.rglob("*.py"))
@@ -49,6 +49,17 @@ BARRED_WORDS = set(
 
 # Objects with == or len of their own: these take lists and no generator expressions.
 TAKE_LISTS = {"any", "all", "min", "max", "sum", "sorted"}
+
+# The rules that take the whole package to be told. Each has a test of its own in tests/test_form_rules.py.
+RULES = [
+    form_rules.assigned_without_setter, form_rules.names_with_two_meanings, form_rules.attributes_that_nothing_has,
+    form_rules.assigned_to_no_local_name, form_rules.not_iterated_at_once, form_rules.sets_out_of_place,
+    form_rules.compared_by_is, form_rules.annotated, form_rules.kinds_of_statements, form_rules.errors_of_python,
+    form_rules.sorted_without_key, form_rules.names_given_twice, form_rules.read_underscores, form_rules.stars_in_calls,
+    form_rules.changed_tables, form_effects.operators_that_change, form_effects.lengths_that_are_none,
+    form_effects.special_methods_without_return, form_effects.exits_that_do_more, form_effects.wrong_arguments,
+    form_effects.changed_in_their_own_loop,
+]
 
 BARRED_CODE = (ast.AsyncFunctionDef, ast.AsyncFor, ast.AsyncWith, ast.Await, ast.Div, ast.MatMult, ast.Import)
 
@@ -214,6 +225,7 @@ class TestForm(unittest.TestCase):
                 if isinstance(node, (ast.FunctionDef, ast.ClassDef)) and not private:
                     self.assertTrue(ast.get_docstring(node), (path, node.name))
 
-    def test_assigned_properties_have_setters(self):
+    def test_rules_of_the_whole_package(self):
         trees = {path.name: tree for path, _, tree in self.each()}
-        self.assertEqual(assigned_without_setter(trees), [])
+        for rule in RULES:
+            self.assertEqual(rule(trees), [], rule.__doc__)

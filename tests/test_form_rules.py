@@ -4,7 +4,8 @@ import ast
 import textwrap
 import unittest
 
-from tests import form_rules
+from tests import form_effects, form_rules
+from tests.test_form import RULES
 
 WITHOUT_SETTER = """
 class Put:
@@ -62,3 +63,149 @@ class TestSetters(unittest.TestCase):
         for row in ["it._value = 1", "it.values = 1", "it.worth = it.value", "value = 1", "it[0] = it.value"]:
             found = form_rules.assigned_without_setter(package(one=WITHOUT_SETTER, other=self.assigned(row)))
             self.assertEqual(found, [], row)
+
+
+# For each rule some code without a breach, and some in each of which it finds one.
+SAMPLES = {
+    form_rules.names_with_two_meanings: (
+        "class A:\n    LIMIT = 1\n    def __init__(self):\n        self._told = 0\n    def told(self):\n        return self._told",
+        [
+            "class A:\n    def __init__(self):\n        self.told = 0\n    def told(self):\n        return 1",
+            "class A:\n    def __init__(self):\n        self.told = 0\nclass B:\n    def told(self):\n        return 1",
+            "class A:\n    @property\n    def host(self):\n        return 0\nclass B:\n    def host(self):\n        return 1",
+            "class A:\n    @property\n    def items(self):\n        return 0",
+            "class A:\n    LIMIT = 1\n    def LIMIT(self):\n        return 1",
+        ],
+    ),
+    form_rules.attributes_that_nothing_has: (
+        "class A:\n    def __init__(self):\n        self.a = []\n    def b(self):\n        return self.a.count(1) + self.b()",
+        ["def f(x):\n    return x.other", "def f(x):\n    return x.sort()", "def f(x):\n    return x.union([])"],
+    ),
+    form_rules.assigned_to_no_local_name: (
+        "def f(x):\n    x.a = 1\n    x.a += 1\n    return x.a.b[0].c",
+        ["def f(x):\n    x.a.b = 1", "def f(x):\n    x[0].a = 1", "def f(x):\n    x().a += 1"],
+    ),
+    form_rules.not_iterated_at_once: (
+        "def f(d):\n    for k, v in d.items():\n        pass\n    return list(d), [v for v in d.values()], list(zip(d, range(3)))",
+        [
+            "def f(d):\n    return d.items()", "def f(d):\n    x = zip(d, d)", "def f(d):\n    return [*d.values()]",
+            "def f(d):\n    return set(d.values())", "def f(d):\n    return len(d.keys())", "def f(d):\n    g(enumerate(d))",
+        ],
+    ),
+    form_rules.sets_out_of_place: (
+        "def f(d):\n    return len(set(d)), sorted({k for k in d})",
+        ["def f(d):\n    s = set()", "def f(d):\n    return {1, 2}", "def f(d):\n    for k in set(d):\n        pass"],
+    ),
+    form_rules.compared_by_is: (
+        "def f(x):\n    return x is None, x is not True, x == 1",
+        ["def f(x, y):\n    return x is y", "def f(x):\n    return x is not 1"],
+    ),
+    form_rules.annotated: (
+        "def f(x, *y):\n    z = x",
+        ["def f(x: int):\n    pass", "def f() -> int:\n    pass", "def f(x):\n    z: int = x"],
+    ),
+    form_rules.kinds_of_statements: (
+        '"""Doc."""\ndef f(x):\n    """Doc."""\n    f(x)\n    while x:\n        del x[0]\n    return [y for y in x]',
+        [
+            "def f(x):\n    yield x", "def f(x):\n    yield from x", "def f(x):\n    global y", "def f(x):\n    x[0]",
+            "def f(x):\n    return list(y for y in x)", "def f(x):\n    if (y := x):\n        pass", "import os",
+        ],
+    ),
+    form_rules.errors_of_python: (
+        "class Bad(ValueError):\n    pass\ndef f(x):\n    try:\n        f(x)\n    except Bad:\n        raise\n    raise Bad(x)",
+        [
+            "def f(x):\n    try:\n        pass\n    except ValueError:\n        pass", "def f(x):\n    raise x",
+            "class Bad(ValueError):\n    pass\ndef f(x):\n    try:\n        pass\n    except (Bad, TypeError):\n        pass",
+            "class Bad(ValueError):\n    pass\ndef f(x):\n    raise Bad", "def f(x):\n    raise x.wrong()",
+        ],
+    ),
+    form_rules.sorted_without_key: (
+        "def f(x):\n    return sorted(x, key=str)",
+        ["def f(x):\n    return sorted(x)", "def f(x):\n    return max(x, key=f)", "def f(x):\n    return min(x)"],
+    ),
+    form_rules.names_given_twice: (
+        "from hookvows.a import b\nTABLE = 1\nclass A:\n    def c(self, d):\n        e = d",
+        [
+            "from hookvows.a import b\ndef f(b):\n    pass", "class A:\n    pass\ndef f():\n    A = 1", "TABLE = 1\ndef f(TABLE):\n    pass",
+            "def f(id):\n    pass", "def f(x):\n    next = x", "def f():\n    f = 1", "def f(x):\n    return [map for map in x]",
+        ],
+    ),
+    form_rules.read_underscores: (
+        "def f(x):\n    a, _ = x\n    return [a for _ in x]", ["def f(x):\n    a, _ = x\n    return _"],
+    ),
+    form_rules.stars_in_calls: (
+        "def f(*x):\n    return f(*x), f(1, *x), [*g(x)]",
+        ["def f(x):\n    f(*x.y)", "def f(x):\n    f(*[1])", "def f(x):\n    f(**x)", "def f(x):\n    f(*g(x))"],
+    ),
+    form_rules.changed_tables: (
+        "TABLE = {1: 2}\ndef f(x):\n    return TABLE[x], x in TABLE, TABLE.get(x), [k for k in TABLE], len(TABLE), dict(TABLE)",
+        [
+            "TABLE = {1: 2}\ndef f(x):\n    TABLE[x] = 1", "TABLE = [1]\ndef f(x):\n    TABLE.append(x)",
+            "TABLE = [1]\ndef f(x):\n    return TABLE", "TABLE = [1]\ndef f(x):\n    f(TABLE)", "TABLE = [1]\ndef f(x):\n    x.a = TABLE",
+        ],
+    ),
+    form_effects.operators_that_change: (
+        "class A:\n    def __init__(self, a):\n        self.a = a\n    def __add__(self, other):\n        b = []\n        b.append(1)\n"
+        "        b[0] = 2\n        return A(b + list(other))\n    def go(self):\n        self.a = 1",
+        [
+            "class A:\n    def __eq__(self, other):\n        self.a = 1\n        return True",
+            "class A:\n    @property\n    def a(self):\n        self._a.append(1)\n        return 1",
+            "class A:\n    def __len__(self):\n        return len(f(self.a))\ndef f(x):\n    x.pop()\n    return x",
+            "class A:\n    def __contains__(self, x):\n        return self.go(x)\n    def go(self, x):\n        x[0] = 1\n        return True",
+            "class A:\n    def __sub__(self, other):\n        return other(1)",
+            "class A:\n    def __add__(self, other):\n        return B(other)\nclass B:\n    def __init__(self, x):\n        x.append(1)",
+            "class A:\n    def __add__(self, other):\n        b = other\n        b.append(1)\n        return b",
+            "class A:\n    def __add__(self, other):\n        b = []\n        b += other\n        return b",
+            "class A:\n    def __add__(self, other):\n        return self.steps[0](other)",
+            "class A:\n    def __add__(self, other):\n        return other.cost\nclass B:\n    @property\n    def cost(self):\n"
+            "        self._x = 1\n        return 1",
+        ],
+    ),
+    form_effects.lengths_that_are_none: (
+        "class A:\n    def __init__(self):\n        self.a = 1\n    def __len__(self):\n        return len(self.a)",
+        ["class A:\n    def __len__(self):\n        return self.a", "class A:\n    def __init__(self):\n        return None"],
+    ),
+    form_effects.special_methods_without_return: (
+        "class A:\n    def __eq__(self, other):\n        return True", ["class A:\n    def __eq__(self, other):\n        if other:\n            return True"],
+    ),
+    form_effects.exits_that_do_more: (
+        "class A:\n    def __exit__(self, kind, value, trace):\n        net = self.net\n        net.there = False\n        self.net = net.outer",
+        [
+            "class A:\n    def __exit__(self, kind, value, trace):\n        self.net.remove(1)",
+            "class A:\n    def __exit__(self, kind, value, trace):\n        self.net = value",
+            "class A:\n    def __exit__(self, kind, value, trace):\n        self.net = self.f()",
+            "class A:\n    def __exit__(self, kind, value, trace):\n        a = self.net\n        b = self.net",
+            "class A:\n    def __exit__(self, kind):\n        self.net = 1",
+            "class A:\n    def __exit__(self, kind, value, trace):\n        self.rows[0] = 1",
+        ],
+    ),
+    form_effects.wrong_arguments: (
+        "class A:\n    def __init__(self, a, b=1):\n        self.c(a)\n    def c(self, *d):\n        return A(1, b=2)\ndef f(x):\n    return f(A(x))",
+        [
+            "def f(x):\n    return f()", "def f(x):\n    return f(1, 2)", "class A:\n    def __init__(self, a):\n        A()",
+            "class A:\n    def go(self, a):\n        self.go()",
+        ],
+    ),
+    form_effects.changed_in_their_own_loop: (
+        "def f(xs, d):\n    for x in list(xs):\n        xs.append(x)\n    for k, v in d.items():\n        xs[k] = v",
+        [
+            "def f(xs):\n    for x in xs:\n        xs.append(x)", "def f(d):\n    for k, v in d.items():\n        d[k] = v",
+            "def f(a):\n    for x in a.b:\n        a.b.pop()", "def f(xs):\n    for n, x in enumerate(xs):\n        del xs[n]",
+            "def f(xs):\n    for x in xs:\n        xs = x",
+        ],
+    ),
+}
+
+
+class TestRules(unittest.TestCase):
+    def test_each_rule_has_a_test(self):
+        self.assertEqual(set(RULES), {form_rules.assigned_without_setter, *SAMPLES})
+
+    def test_no_breach(self):
+        for rule, (right, _) in SAMPLES.items():
+            self.assertEqual(rule(package(right=right)), [], rule.__name__)
+
+    def test_breaches(self):
+        for rule, (right, wrong) in SAMPLES.items():
+            for text in wrong:
+                self.assertEqual({told[0] for told in rule(package(right="", wrong=text))}, {"wrong.py"}, (rule.__name__, text))

@@ -573,6 +573,23 @@ class TestDoors(unittest.TestCase):
         run = live.call("run")
         self.assertEqual([run.way, len(run.looks()), driver.left], ["well", 290, 0])
 
+    def test_many_parts_around_by_functions(self):
+        live = acting(free_host([Fire("h"), Do("x")], [Do("core")]), *[("around", lambda visit: visit.inner())] * 250)
+        run = live.call("run")
+        self.assertEqual([run.way, run.trace().count(VISITS[1]), run.doings().count(("did", "core"))], ["well", 250, 1])
+
+    def test_thirty_doors_with_parts_around_by_functions(self):
+        many = [30]
+
+        def last(visit):
+            if many[0] > 0:
+                many[0] -= 1
+                visit.door("run")
+
+        ranked = [("around", lambda visit: visit.inner())] * 6 + [("around", last)]
+        run = acting(free_host([Fire("h")], [Do("core")]), *ranked).call("run")
+        self.assertEqual([run.way, run.doings().count(("did", "core"))], ["well", 31])
+
     def test_scripts_go_as_deep_as_they_like(self):
         rows = [[("door", "pay")]] * 300
         run = run_script(pay_host(), "pay", (0, 0), Script(*rows))
