@@ -48,7 +48,7 @@ class RunBody(Body):
     def end(self, way):
         """Ends in this way, which the trace tells."""
         self._work.note(("ended", self._deed, way, self._work.present()))
-        self._work.close(way)
+        super().end(way)
 
 
 class CoreBody(Body):
@@ -61,4 +61,4 @@ class CoreBody(Body):
     def end(self, way):
         """Ends in this way, which the firing has to know, however far around it a failure is swallowed."""
         self._firing.core_ended(way)
-        self._work.close(way)
+        super().end(way)

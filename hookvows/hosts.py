@@ -113,8 +113,6 @@ class Host:
 
     def from_state(self, state):
         """The host with another first state."""
-        if state not in self._boxes:
-            raise InvalidState(state)
         return self._like(state, self.powers())
 
     def __len__(self):

@@ -197,8 +197,8 @@ class Reader:
         return fits and room
 
     def _takes_power(self, line, words):
-        power = tuple([*words[1:], "", "", "", ""][:4])
-        # The line is made again: it must neither lack a word nor have one too many.
+        power = tuple([*words[1:], ""][:4])
+        # The line is made again: it must neither have a word too many nor an empty one.
         if not is_power(power, self._boxes, list(self._deeds), list(self._hooks)) or line != _power_line(power):
             return False
         if len(self._deeds) == 0 or (len(self._powers) > 0 and power <= self._powers[-1]):
@@ -244,7 +244,7 @@ class Reader:
             return Do(name)
         if word == "fire" and name in self._hooks and self._head[0] != "hook":
             return Fire(name)
-        # The present deed is not yet among the deeds, and ahead of all hooks there are none.
+        # The present deed is not yet among the deeds, and while hooks are read there is none.
         if word == "call" and name in self._deeds:
             return Call(name)
         return None

@@ -88,9 +88,9 @@ class Firing:
 
     def swallow_since(self, done):
         """Tells of the cores that came and failed behind so many acts that their failures were swallowed."""
-        for place in self._failed_cores:
-            if place >= done:
-                self._row[place] = ("swallow",)
+        while len(self._failed_cores) > 0 and self._failed_cores[-1] >= done:
+            place = self._failed_cores.pop()
+            self._row[place] = ("swallow",)
 
 
 class Turn:
@@ -110,7 +110,7 @@ class Turn:
         # Whether what is within has come, or will never come: at the other ranks there is nothing within.
         self._settled = part.at_rank != AROUND
         self._broken = False
-        # The word of the act that waits for what it let begin, and how many acts the row had ahead of it.
+        # The word of the act that waits for what it let begin, and how many acts its row had ahead of it.
         self._awaited = ""
         self._since = 0
         self._answer = None

@@ -289,3 +289,48 @@ def changed_tables(trees):
             if not read:
                 found.append(place(file_name, node))
     return found
+
+
+def names_of_values(trees):
+    """L26: no attribute has a name that values of Python have; a method only one of L25, or add."""
+    found = [told for told in assigned_attributes(trees) if told[2] in MEMBERS_OF_VALUES]
+    barred = MEMBERS_OF_VALUES - VALUE_METHODS - {"add", "discard"}
+    for file_name, kind in nodes(trees, ast.ClassDef):
+        for node in methods(kind):
+            if node.name in barred and not node.name.startswith("__"):
+                found.append(place(file_name, node, node.name))
+    return found
+
+
+def keywords_of_builtins(trees):
+    """L22: sorted takes key and reverse, min and max key and default, sum and enumerate start, and no others any."""
+    taken = {"sorted": {"key", "reverse"}, "min": {"key", "default"}, "max": {"key", "default"}, "sum": {"start"},
+             "enumerate": {"start"}, "zip": {"strict"}}
+    found = []
+    for file_name, node in nodes(trees, ast.Call):
+        name, told = called_name(node), {keyword.arg for keyword in node.keywords}
+        of_value = called_method(node) in VALUE_METHODS and called_method(node) not in method_names(trees)
+        if told and (of_value or (name in dir(builtins) and not told <= taken.get(name, set()))):
+            found.append(place(file_name, node))
+    return found
+
+
+def literals_in_format_strings(trees):
+    """L7, L27: in the braces of an f-string stands no string, and no format behind the expression."""
+    found = []
+    for file_name, node in nodes(trees, ast.FormattedValue):
+        inside = [part for part in ast.walk(node.value) if isinstance(part, (ast.Constant, ast.JoinedStr))]
+        if any(not isinstance(getattr(part, "value", ""), int) for part in inside) or node.format_spec:
+            found.append((file_name, node.value.lineno, ast.unparse(node.value)))
+    return found
+
+
+def default_values(trees):
+    """L4: default values are plain: integers, strings, True, False, None, and tuples of these."""
+    found = []
+    for file_name, node in nodes(trees, ast.FunctionDef, ast.Lambda):
+        for value in [*node.args.defaults, *[value for value in node.args.kw_defaults if value]]:
+            parts = value.elts if isinstance(value, ast.Tuple) else [value]
+            if not all(isinstance(part, ast.Constant) for part in parts):
+                found.append(place(file_name, value))
+    return found

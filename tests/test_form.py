@@ -56,9 +56,10 @@ RULES = [
     form_rules.assigned_to_no_local_name, form_rules.not_iterated_at_once, form_rules.sets_out_of_place,
     form_rules.compared_by_is, form_rules.annotated, form_rules.kinds_of_statements, form_rules.errors_of_python,
     form_rules.sorted_without_key, form_rules.names_given_twice, form_rules.read_underscores, form_rules.stars_in_calls,
-    form_rules.changed_tables, form_effects.operators_that_change, form_effects.lengths_that_are_none,
-    form_effects.special_methods_without_return, form_effects.exits_that_do_more, form_effects.wrong_arguments,
-    form_effects.changed_in_their_own_loop,
+    form_rules.changed_tables, form_rules.names_of_values, form_rules.keywords_of_builtins,
+    form_rules.literals_in_format_strings, form_rules.default_values, form_effects.operators_that_change,
+    form_effects.lengths_that_are_none, form_effects.special_methods_without_return, form_effects.exits_that_do_more,
+    form_effects.wrong_arguments, form_effects.changed_in_their_own_loop,
 ]
 
 BARRED_CODE = (ast.AsyncFunctionDef, ast.AsyncFor, ast.AsyncWith, ast.Await, ast.Div, ast.MatMult, ast.Import)

@@ -144,6 +144,24 @@ SAMPLES = {
             "TABLE = [1]\ndef f(x):\n    return TABLE", "TABLE = [1]\ndef f(x):\n    f(TABLE)", "TABLE = [1]\ndef f(x):\n    x.a = TABLE",
         ],
     ),
+    form_rules.names_of_values: (
+        "class A:\n    def __init__(self):\n        self.told = 1\n    def remove(self):\n        pass\n    def add(self):\n        pass",
+        [
+            "def f(x):\n    x.items = 1", "def f(x):\n    x.sort = 1", "class A:\n    def decode(self):\n        pass",
+            "class A:\n    def union(self):\n        pass",
+        ],
+    ),
+    form_rules.keywords_of_builtins: (
+        "def f(x, y):\n    return f(x, y=1), sorted(x, key=str, reverse=True), list(enumerate(x, start=1)), max(x, default=0)",
+        ["def f(x):\n    return int(x, base=2)", "def f(x):\n    return x.split(sep=1)", "def f(x):\n    return len(obj=x)"],
+    ),
+    form_rules.literals_in_format_strings: (
+        "def f(x):\n    return f'{x} of {len(x) + 1}'",
+        ["def f(x):\n    return f'{x[\"a\"]}'", "def f(x):\n    return f'{x:>5}'"],
+    ),
+    form_rules.default_values: (
+        "def f(x, y=1, z=(), *w, v=None):\n    pass", ["def f(x=[]):\n    pass", "def f(x=f()):\n    pass", "def f(*, x={}):\n    pass"],
+    ),
     form_effects.operators_that_change: (
         "class A:\n    def __init__(self, a):\n        self.a = a\n    def __add__(self, other):\n        b = []\n        b.append(1)\n"
         "        b[0] = 2\n        return A(b + list(other))\n    def go(self):\n        self.a = 1",

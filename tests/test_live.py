@@ -564,6 +564,14 @@ class TestDoors(unittest.TestCase):
         self.assertEqual([run.way, run.doings()[2:4]], ["well", [("called", "run"), ("fired", "h")]])
         self.assertIn(("ended", "run", "failed", (1, 0)), run.doings())
 
+    def test_a_failure_in_a_door_behind_an_inner_is_none_of_the_core(self):
+        host = free_host([Fire("h"), Do("x")], [Do("core")], [("bad", [Do("bad"), Fail()])])
+        for word in ["inner", "swallow"]:
+            for act in [("door", "bad"), ("look",)]:
+                run = acting(host, ("around", acts_of([(word,), act, (word,), act]))).call("run")
+                self.assertEqual([run.way, run.doings().count(("did", "core"))], ["well", 2])
+                self.assertEqual(run.doings().count(("did", "bad")), 2 if act[0] == "door" else 0)
+
     def test_many_parts_around_by_a_script(self):
         host = free_host([Fire("h"), Do("x")], [Do("core")])
         live = Live(host)
@@ -859,6 +867,23 @@ class TestDrivers(unittest.TestCase):
         # The row with answer was taken within the door.
         self.assertEqual([driver.left, len(live.call("run").looks()), driver.left, seen], [1, 1, 0, [None] * 5])
         self.assertEqual(live.call("run").looks(), [])
+
+    def test_a_driver_does_all_acts_by_the_methods_of_a_visit(self):
+        acts = [*PLAIN, ("lend", "b", 2), ("door", "run"), *PLAIN[::-1]]
+        told = []
+
+        class Noting:
+            """Notes each call of a method of this visit."""
+
+            def __getattr__(self, name):
+                return lambda *values: told.append((name, *values))
+
+        driver = acts_of(acts, [], acts[:2])
+        for wanted in [acts, [], acts[:2], [], []]:
+            driver(Noting())
+            self.assertEqual(told, wanted)
+            told.clear()
+        self.assertEqual(driver.left, 0)
 
     def test_no_script(self):
         for value in [None, [], [[]], [[("look",)]], 0, "", Script, Play([], Script()), *odd_values(), *containers()]:
