@@ -48,23 +48,13 @@ class Put(Statement):
 
     def __init__(self, box, value):
         self._box = checked_name(box)
-        self._value = _checked_value(value)
+        # No property: errors have an attribute of this name, which is one here, too.
+        self.value = _checked_value(value)
 
     @property
     def box(self):
         """The box that is given a value."""
         return self._box
-
-    @property
-    def value(self):
-        """The value that the box is given."""
-        return self._value
-
-    @value.setter
-    def value(self, value):
-        """Never: a statement does not change."""
-        # Other classes have an attribute of this name, which is why L5 asks for a setter.
-        raise AttributeError("value")
 
     def bodies(self):
         """No bodies."""
@@ -75,7 +65,7 @@ class Put(Statement):
         return 1
 
     def __eq__(self, other):
-        return isinstance(other, Put) and self._box == other._box and self._value == other._value
+        return isinstance(other, Put) and self._box == other._box and self.value == other.value
 
 
 class Fire(Statement):
@@ -129,7 +119,8 @@ class If(Statement):
 
     def __init__(self, box, value, body, other=()):
         self._box = checked_name(box)
-        self._value = _checked_value(value)
+        # No property: errors have an attribute of this name, which is one here, too.
+        self.value = _checked_value(value)
         self._body = _copied_body(body)
         self._other = _copied_body(other)
         self._many = 1 + _many_in(self._body) + _many_in(self._other)
@@ -138,17 +129,6 @@ class If(Statement):
     def box(self):
         """The box whose value decides."""
         return self._box
-
-    @property
-    def value(self):
-        """The value with which the body is done."""
-        return self._value
-
-    @value.setter
-    def value(self, value):
-        """Never: a statement does not change."""
-        # Other classes have an attribute of this name, which is why L5 asks for a setter.
-        raise AttributeError("value")
 
     def bodies(self):
         """The body, and the other body."""
@@ -159,7 +139,7 @@ class If(Statement):
         return self._many
 
     def __eq__(self, other):
-        if not isinstance(other, If) or self._box != other._box or self._value != other._value:
+        if not isinstance(other, If) or self._box != other._box or self.value != other.value:
             return False
         return self._body == other._body and self._other == other._other
 

@@ -18,12 +18,17 @@ def functions_by_name(trees):
     return found
 
 
-def run_by_operators(trees):
-    """All functions that an operator or a property may run, found by their names alone."""
-    by_name = functions_by_name(trees)
+def begun_by_python(trees):
+    """The operators and properties of all classes, and for each name of a property one that has it."""
     begin = [node for kind in classes(trees) for node in methods(kind)
              if node.name in OPERATORS or "property" in decorators(node)]
-    property_nodes = {node.name: node for node in begin if "property" in decorators(node)}
+    return begin, {node.name: node for node in begin if "property" in decorators(node)}
+
+
+def run_from(trees, begin):
+    """All functions that these functions may run, found by their names alone; themselves included."""
+    by_name = functions_by_name(trees)
+    _, property_nodes = begun_by_python(trees)
     found, waiting = [], list(begin)
     while waiting:
         function = waiting.pop()
@@ -35,6 +40,29 @@ def run_by_operators(trees):
             waiting += by_name.get(name, [])
             if isinstance(node, ast.Attribute) and node.attr in property_nodes:
                 waiting.append(property_nodes[node.attr])
+    return found
+
+
+def run_by_operators(trees):
+    """All functions that an operator or a property may run, found by their names alone."""
+    return run_from(trees, begun_by_python(trees)[0])
+
+
+def operators_that_run_setters(trees):
+    """L5: what an operator or a property runs, the errors that it raises included, assigns no attribute whose name is
+    that of a property with a setter in some class: each such assignment may be a call of this setter."""
+    with_setter = {
+        method.name for kind in classes(trees) for method in methods(kind) if method.name + ".setter" in decorators(method)
+    }
+    found = []
+    for file_name, operator in nodes(trees, ast.FunctionDef):
+        if operator not in begun_by_python(trees)[0]:
+            continue
+        told = [node for function in run_from(trees, [operator]) for node in ast.walk(function)]
+        given = {node.attr for node in told if isinstance(node, ast.Attribute) and not isinstance(node.ctx, ast.Load)}
+        given |= {ast.literal_eval(node.args[1]) for node in told if called_name(node) == "setattr"}
+        if given & with_setter:
+            found.append(place(file_name, operator, operator.name))
     return found
 
 

@@ -58,6 +58,7 @@ RULES = [
     form_rules.sorted_without_key, form_rules.names_given_twice, form_rules.read_underscores, form_rules.stars_in_calls,
     form_rules.changed_tables, form_rules.names_of_values, form_rules.keywords_of_builtins,
     form_rules.literals_in_format_strings, form_rules.default_values, form_effects.operators_that_change,
+    form_effects.operators_that_run_setters,
     form_effects.lengths_that_are_none, form_effects.special_methods_without_return, form_effects.exits_that_do_more,
     form_effects.wrong_arguments, form_effects.changed_in_their_own_loop,
 ]

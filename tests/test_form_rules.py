@@ -215,9 +215,64 @@ SAMPLES = {
 }
 
 
+WRONG_ERROR = "class Wrong(ValueError):\n    def __init__(self, value):\n        self.value = value\n"
+
+BAG = """
+class Bag:
+    def __init__(self, rows):
+        if not rows:
+            raise Wrong(rows)
+        self._rows = rows
+
+    def __add__(self, other):
+        return Bag(self._rows + other)
+
+    def __sub__(self, other):
+        return self.less(other)
+
+    def less(self, other):
+        raise Wrong(other)
+
+    @property
+    def most(self):
+        return self.other_bag()
+
+    def other_bag(self):
+        return Bag(self._rows)
+
+    def __len__(self):
+        return len(self._rows)
+
+    def change(self):
+        self.value = 1
+"""
+
+
+class TestSettersThatOperatorsRun(unittest.TestCase):
+    """The breach of issue 10: an operator raises an error that has an attribute of the name of a setter."""
+
+    def test_errors_that_operators_raise(self):
+        told = package(errors=WRONG_ERROR, bags=BAG, statements=WITH_SETTER)
+        found = form_effects.operators_that_run_setters(told)
+        self.assertEqual(found, [("bags.py", 8, "__add__"), ("bags.py", 11, "__sub__"), ("bags.py", 18, "most")])
+
+    def test_no_setter_of_this_name(self):
+        plain = "class Put:\n    def __init__(self, value):\n        self.value = value\n"
+        for statements in [plain, WITH_SETTER.replace("value", "told")]:
+            told = package(errors=WRONG_ERROR, bags=BAG, statements=statements)
+            self.assertEqual(form_effects.operators_that_run_setters(told), [])
+
+    def test_setattr_and_attributes_of_others(self):
+        for row in ["setattr(other, 'value', 1)", "other.value = 1", "other.value += 1", "Wrong(1)"]:
+            bag = "class Bag:\n    def __contains__(self, other):\n        " + row + "\n        return True\n"
+            told = package(errors=WRONG_ERROR, bags=bag, statements=WITH_SETTER)
+            self.assertEqual(form_effects.operators_that_run_setters(told), [("bags.py", 2, "__contains__")], row)
+
+
 class TestRules(unittest.TestCase):
     def test_each_rule_has_a_test(self):
-        self.assertEqual(set(RULES), {form_rules.assigned_without_setter, *SAMPLES})
+        apart = {form_rules.assigned_without_setter, form_effects.operators_that_run_setters}
+        self.assertEqual(set(RULES), {*apart, *SAMPLES})
 
     def test_no_breach(self):
         for rule, (right, _) in SAMPLES.items():

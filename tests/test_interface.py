@@ -33,10 +33,11 @@ CLASSES = {
     "hookvows.statements": {
         "Statement": (STATEMENT_METHODS, [], []),
         "Do": ({"__init__": ["step"], **STATEMENT_METHODS}, ["step"], []),
-        "Put": ({"__init__": ["box", "value"], **STATEMENT_METHODS}, ["box", "value"], []),
+        # Their value is an attribute of each object: see tests/test_statements.py.
+        "Put": ({"__init__": ["box", "value"], **STATEMENT_METHODS}, ["box"], []),
         "Fire": ({"__init__": ["hook"], **STATEMENT_METHODS}, ["hook"], []),
         "Call": ({"__init__": ["deed"], **STATEMENT_METHODS}, ["deed"], []),
-        "If": ({"__init__": ["box", "value", "body", "other"], **STATEMENT_METHODS}, ["box", "value"], []),
+        "If": ({"__init__": ["box", "value", "body", "other"], **STATEMENT_METHODS}, ["box"], []),
         "Last": ({"__init__": ["body", "last"], **STATEMENT_METHODS}, [], []),
         "Guard": ({"__init__": ["body", "other"], **STATEMENT_METHODS}, [], []),
         "Fail": (STATEMENT_METHODS, [], []),

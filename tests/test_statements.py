@@ -48,6 +48,12 @@ class TestKinds(unittest.TestCase):
             self.assertEqual(Put("a", value).value, value)
             self.assertEqual(If("a", value, []).value, value)
 
+    def test_value_is_an_attribute_of_each_object(self):
+        # A property of this name with a setter would be run by each error that keeps a value.
+        for kind, made in [(Put, Put("a", 3)), (If, If("a", 3, []))]:
+            self.assertEqual(vars(made)["value"], 3)
+            self.assertNotIn("value", vars(kind))
+
     def test_each_has_the_properties_of_its_parameters_alone(self):
         wanted = {Do: ["step"], Put: ["box", "value"], Fire: ["hook"], Call: ["deed"], If: ["box", "value"]}
         for made, kind in zip(one_of_each(), KINDS):
@@ -56,7 +62,7 @@ class TestKinds(unittest.TestCase):
 
     def test_properties_are_not_assigned(self):
         for made in one_of_each():
-            for name in ["step", "box", "value", "hook", "deed"]:
+            for name in ["step", "box", "hook", "deed"]:
                 if hasattr(made, name):
                     with self.assertRaises(AttributeError):
                         setattr(made, name, "b")
