@@ -1,8 +1,10 @@
 """The errors that belong to parameters of the same names in many functions."""
 
-from hookvows.basics import is_name
-from hookvows.errors import InvalidHost, InvalidPlay, InvalidRank, InvalidScript, InvalidState, UnknownDeed
+from hookvows.basics import is_list, is_name
+from hookvows.errors import InvalidHost, InvalidPlay, InvalidPowers, InvalidRank, InvalidScript, InvalidState
+from hookvows.errors import InvalidWays, UnknownDeed
 from hookvows.hosts import RANKS, Host
+from hookvows.programs import FAILED, WELL
 from hookvows.scripts import Play, Script
 
 
@@ -30,9 +32,14 @@ def check_script(script):
         raise InvalidScript(None)
 
 
+def is_play_of(host, value):
+    """Whether any value is a Play that calls open deeds of the host alone."""
+    return isinstance(value, Play) and all([is_open(host, deed) for deed in value.calls()])
+
+
 def check_play(host, play):
     """The play must be a Play that calls open deeds of the host alone."""
-    if not isinstance(play, Play) or not all([is_open(host, deed) for deed in play.calls()]):
+    if not is_play_of(host, play):
         raise InvalidPlay(play)
 
 
@@ -51,3 +58,25 @@ def check_rank(rank):
     """The rank must be a rank."""
     if not is_rank(rank):
         raise InvalidRank(rank)
+
+
+def is_way(value):
+    """Whether any value is a way in which a run can end."""
+    return isinstance(value, str) and value in (WELL, FAILED)
+
+
+def check_way(way):
+    """The way must be a way."""
+    if not is_way(way):
+        raise InvalidWays(way)
+
+
+def are_powers_of(host, value):
+    """Whether any value is a list of different powers of the host, perhaps empty."""
+    return is_list(value) and all([host.lets(power) for power in value]) and len(set(value)) == len(value)
+
+
+def check_powers(host, powers):
+    """The powers must be a list of different powers of the host, perhaps empty."""
+    if not are_powers_of(host, powers):
+        raise InvalidPowers(powers)

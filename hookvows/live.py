@@ -298,13 +298,30 @@ def as_one(host, deed, state, parts):
 
 def play_all(host, play):
     """The list of the Runs of the play."""
+    # The log of a run begins with its call and the state in which it begins.
+    return [Run(deed, work.log()[1][2], work.trace()) for deed, work in _works(host, play)]
+
+
+def play_logs(host, play):
+    """The list of the logs of the runs of the play: their traces, and what stands beside these."""
+    return [work.log() for _, work in _works(host, play)]
+
+
+def _works(host, play):
+    """The list of the calls of the play, each a tuple of the deed and the Work behind its run."""
     check_host(host)
     check_play(host, play)
-    live = Live(host)
+    program = Program(host)
     driver = Driver(play.script)
-    for rank in RANKS:
-        live.add(rank, driver)
-    return [live.call(deed) for deed in play.calls()]
+    parts = [Part(number, rank, driver) for number, rank in enumerate(RANKS)]
+    works = []
+    state = host.first
+    for deed in play.calls():
+        work = Work(host, program, parts, state)
+        work.run(deed)
+        works.append((deed, work))
+        state = work.present()
+    return works
 
 
 def _check_run(host, deed, state):

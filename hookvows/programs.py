@@ -38,6 +38,10 @@ class Program:
         """The point at this place."""
         return self._points[place]
 
+    def points(self):
+        """The list of all points; those to which a point leads stand ahead of it."""
+        return list(self._points)
+
     def _entry(self, body, well, failed):
         """The place where the body begins, which goes on at well or at failed when it has ended so."""
         for statement in body[::-1]:

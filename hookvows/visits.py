@@ -110,8 +110,9 @@ class Turn:
         # Whether what is within has come, or will never come: at the other ranks there is nothing within.
         self._settled = part.at_rank != AROUND
         self._broken = False
-        # The word of the act that waits for what it let begin, and how many acts its row had ahead of it.
+        # The word of the act that waits for what it let begin, its deed, and how many acts its row had ahead of it.
         self._awaited = ""
+        self._opened = ""
         self._since = 0
         self._answer = None
 
@@ -142,7 +143,12 @@ class Turn:
     def told(self, way):
         """Goes on behind a run through a door, or behind what is within, which has ended in this way."""
         self._answer = way
-        if way == WELL or self._firing.has_ended():
+        if self._firing.has_ended():
+            return
+        # What comes within without an act comes when the visit is over.
+        if not self._over:
+            self._work.note(("door", self._opened, way) if self._awaited == "door" else ("inner", way))
+        if way == WELL:
             return
         if self._awaited == "swallow":
             self._firing.swallow_since(self._since)
@@ -172,6 +178,7 @@ class Turn:
             self._work.set_box(act[1], act[2])
         elif word == "door":
             self._awaited = word
+            self._opened = act[1]
             self._work.start_deed(act[1])
         else:
             self._firing.end(WELL if word == "answer" else FAILED)

@@ -5,6 +5,10 @@ from hookvows.bodies import CoreBody, RunBody
 from hookvows.hosts import RANKS
 from hookvows.visits import Firing
 
+# What stands in the log of a run beside its trace: ("begun", deed, state) where a run begins, ("door", deed, way) where
+# a run through a door ends, ("inner", way) where what a part let come is over.
+BESIDE_THE_TRACE = ("begun", "door", "inner")
+
 
 class Work:
     """A run from outside, which is a list of frames: bodies, firings and visits, each within the one ahead of it.
@@ -18,7 +22,7 @@ class Work:
         self._program = program
         self._at_ranks = {rank: [part for part in parts if part.at_rank == rank] for rank in RANKS}
         self._state = state
-        self._trace = []
+        self._log = []
         self._rows = []
         self._frames = []
         self._asked = None
@@ -50,6 +54,7 @@ class Work:
     def start_deed(self, deed):
         """Lets a run of the deed begin."""
         self.note(("called", deed))
+        self.note(("begun", deed, self._state))
         self.push(RunBody(self, deed, self._program.start_of(deed)))
 
     def start_firing(self, hook):
@@ -72,8 +77,8 @@ class Work:
             self._frames[-1].told(way)
 
     def note(self, item):
-        """Notes what happens in the trace."""
-        self._trace.append(item)
+        """Notes what happens in the log."""
+        self._log.append(item)
 
     def new_row(self):
         """A list for the acts at a rank that a firing comes to."""
@@ -109,9 +114,13 @@ class Work:
         """Whether any value is one of this box."""
         return is_below(value, self._host.boxes.size(box))
 
-    def trace(self):
+    def log(self):
         """The list of all that has happened, in sequence."""
-        return list(self._trace)
+        return list(self._log)
+
+    def trace(self):
+        """The trace: the log without what stands beside the trace."""
+        return [item for item in self._log if item[0] not in BESIDE_THE_TRACE]
 
     def rows(self):
         """The rows of the script with which one part at each rank does the same."""

@@ -19,33 +19,50 @@ def functions_by_name(trees):
 
 
 def begun_by_python(trees):
-    """The operators and properties of all classes, and for each name of a property one that has it."""
-    begin = [node for kind in classes(trees) for node in methods(kind)
-             if node.name in OPERATORS or "property" in decorators(node)]
-    return begin, {node.name: node for node in begin if "property" in decorators(node)}
+    """The operators and properties of all classes."""
+    return [node for kind in classes(trees) for node in methods(kind)
+            if node.name in OPERATORS or "property" in decorators(node)]
 
 
-def run_from(trees, begin):
-    """All functions that these functions may run, found by their names alone; themselves included."""
+def calls_of_functions(trees):
+    """For each function those that it may call, found by their names alone; a property is called by reading it."""
     by_name = functions_by_name(trees)
-    _, property_nodes = begun_by_python(trees)
-    found, waiting = [], list(begin)
-    while waiting:
-        function = waiting.pop()
-        if function in found:
-            continue
-        found.append(function)
+    property_nodes = {node.name: node for node in begun_by_python(trees) if "property" in decorators(node)}
+    found = {}
+    for _, function in nodes(trees, ast.FunctionDef):
+        found[function] = []
         for node in ast.walk(function):
-            name = called_name(node) or called_method(node)
-            waiting += by_name.get(name, [])
+            found[function] += by_name.get(called_name(node) or called_method(node), [])
             if isinstance(node, ast.Attribute) and node.attr in property_nodes:
-                waiting.append(property_nodes[node.attr])
+                found[function].append(property_nodes[node.attr])
     return found
 
 
+def run_from(calls, begin):
+    """All functions that these functions may run; themselves included."""
+    found, waiting = {}, list(begin)
+    while waiting:
+        function = waiting.pop()
+        if function not in found:
+            found[function] = True
+            waiting += calls[function]
+    return list(found)
+
+
 def run_by_operators(trees):
-    """All functions that an operator or a property may run, found by their names alone."""
-    return run_from(trees, begun_by_python(trees)[0])
+    """All functions that an operator or a property may run."""
+    return run_from(calls_of_functions(trees), begun_by_python(trees))
+
+
+def given_attributes(function):
+    """The names of the attributes that a function assigns."""
+    found = set()
+    for node in ast.walk(function):
+        if isinstance(node, ast.Attribute) and not isinstance(node.ctx, ast.Load):
+            found.add(node.attr)
+        if called_name(node) == "setattr":
+            found.add(ast.literal_eval(node.args[1]))
+    return found
 
 
 def operators_that_run_setters(trees):
@@ -54,16 +71,13 @@ def operators_that_run_setters(trees):
     with_setter = {
         method.name for kind in classes(trees) for method in methods(kind) if method.name + ".setter" in decorators(method)
     }
-    found = []
-    for file_name, operator in nodes(trees, ast.FunctionDef):
-        if operator not in begun_by_python(trees)[0]:
-            continue
-        told = [node for function in run_from(trees, [operator]) for node in ast.walk(function)]
-        given = {node.attr for node in told if isinstance(node, ast.Attribute) and not isinstance(node.ctx, ast.Load)}
-        given |= {ast.literal_eval(node.args[1]) for node in told if called_name(node) == "setattr"}
-        if given & with_setter:
-            found.append(place(file_name, operator, operator.name))
-    return found
+    calls = calls_of_functions(trees)
+    breaches = {function for function in calls if given_attributes(function) & with_setter}
+    operators = begun_by_python(trees)
+    return [
+        place(file_name, node, node.name) for file_name, node in nodes(trees, ast.FunctionDef)
+        if node in operators and not breaches.isdisjoint(run_from(calls, [node]))
+    ]
 
 
 def is_fresh(value):

@@ -1,0 +1,124 @@
+"""The plays of two hosts at once as a graph: where they show something else is the end that is wanted.
+
+The nodes are as those of hookvows.graphs, with the numbers of the states of both hosts in the place of a mark and one
+number: ("play", one, other), ("run", deed, one, other), ("in", hook, phase, one, other), ("end", way, one, other), and
+WANTED. A call by Call shows nothing, so that runs by Call are a part of the run that called: in ("at", places, others,
+one, other) both hosts fire the same hook, each at the last of its places; ahead of it stand those at which it called.
+"""
+
+from hookvows.graphs import WANTED
+from hookvows.phases import AHEAD, ENDED_FAILED, ENDED_WELL
+from hookvows.programs import FAILED, WELL
+
+
+class PairGraph:
+    """The graph of the plays of the hosts of two plans, which can be compared."""
+
+    def __init__(self, plan, other_plan, sees_steps):
+        self._plan = plan
+        self._other_plan = other_plan
+        self._sees_steps = sees_steps
+        self._moves = {}
+
+    def start_of_plays(self):
+        """The node ahead of the first call."""
+        return ("play", self._plan.first_number(), self._other_plan.first_number())
+
+    def is_end(self, node):
+        """Whether the node is an end."""
+        return node[0] == "end" or node == WANTED
+
+    def moves(self, node):
+        """The list of the moves from the node."""
+        if node not in self._moves:
+            self._moves[node] = self._moves_from(node)
+        return self._moves[node]
+
+    def behind(self, key, end):
+        """The node behind this end of what is within, for the key of a move."""
+        if end == WANTED:
+            return WANTED
+        _, way, one, other = end
+        if key[0] == "play":
+            return ("play", one, other) if one == other else WANTED
+        if key[0] == "in":
+            return (*key, one, other)
+        _, places, others = key
+        return self._met(_behind_last(self._plan, places, way), _behind_last(self._other_plan, others, way), one, other)
+
+    def _moves_from(self, node):
+        if node[0] == "play":
+            return [(1, ("call", deed), ("run", deed, *node[1:]), ("play",)) for deed in self._plan.open_deeds()]
+        if node[0] == "run":
+            _, deed, one, other = node
+            places, others = (self._plan.start_of(deed),), (self._other_plan.start_of(deed),)
+            return [(0, None, None, self._met(places, others, one, other))]
+        if node[0] == "at":
+            _, places, _, one, other = node
+            return [(0, None, ("in", self._plan.point(places[-1])[1], AHEAD, one, other), node[:3])]
+        _, hook, phase, one, other = node
+        found = [self._move_in(node, move) for move in self._plan.moves_in(hook, phase)]
+        return [move for move in found if move is not None]
+
+    def _move_in(self, node, move):
+        """The move in a firing from the node; None if it is of no use."""
+        _, hook, phase, one, other = node
+        act, word, well, failed = move
+        if word == "look":
+            return (1, act, None, WANTED) if one != other else None
+        # If the states differ, no act can be better than a look.
+        if act is not None and one != other:
+            return None
+        price = 0 if act is None else 1
+        if word == "door":
+            return price, act, ("run", act[1], one, other), node[:3]
+        if word == "lend":
+            lent = self._plan.lent(one, act[1], act[2])
+            return price, act, None, ("in", hook, phase, lent, lent)
+        if word == "pass":
+            return price, act, None, _come(hook, well, one, other)
+        way, one, steps = self._plan.core_from(hook, one)
+        other_way, other, other_steps = self._other_plan.core_from(hook, other)
+        # Without an act the way of the core is not shown, but whether the next rank is visited shows it at once.
+        if way != other_way or (self._sees_steps and steps != other_steps):
+            return price, act, None, WANTED
+        return price, act, None, _come(hook, well if way == WELL else failed, one, other)
+
+    def _met(self, places, others, one, other):
+        """The node where both hosts come to that go on from their last places."""
+        places, word, name, one, steps = _walked_on(self._plan, places, one)
+        others, other_word, other_name, other, other_steps = _walked_on(self._other_plan, others, other)
+        if (word, name) != (other_word, other_name) or (self._sees_steps and steps != other_steps):
+            return WANTED
+        return ("end", name, one, other) if word == "end" else ("at", places, others, one, other)
+
+
+def _come(hook, phase, one, other):
+    """The node in this phase of a firing."""
+    if phase == ENDED_WELL or phase == ENDED_FAILED:
+        return ("end", WELL if phase == ENDED_WELL else FAILED, one, other)
+    return ("in", hook, phase, one, other)
+
+
+def _behind_last(plan, places, way):
+    """The places, with the one behind the last of them, which has ended in this way."""
+    well, failed = plan.point(places[-1])[3:]
+    return (*places[:-1], well if way == WELL else failed)
+
+
+def _walked_on(plan, places, number):
+    """Goes on from the last of the places, as far as nothing is fired and the run does not end.
+
+    Tells the places, the word and the name of the last one, the number of the state, and the steps on the way.
+    """
+    steps = []
+    while True:
+        word, name, place, number, more = plan.walk(places[-1], number)
+        steps.extend(more)
+        places = (*places[:-1], place)
+        if word == "call":
+            places = (*places, plan.start_of(name))
+        elif word == "end" and len(places) > 1:
+            places = _behind_last(plan, places[:-1], name)
+        else:
+            return places, word, name, number, tuple(steps)
