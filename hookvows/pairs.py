@@ -17,6 +17,8 @@ class PairGraph:
     def __init__(self, plan, other_plan, sees_steps):
         self._plan = plan
         self._other_plan = other_plan
+        self._side = Side(plan)
+        self._other_side = Side(other_plan)
         self._sees_steps = sees_steps
         self._moves = {}
 
@@ -44,15 +46,14 @@ class PairGraph:
         if key[0] == "in":
             return (*key, one, other)
         _, places, others = key
-        return self._met(_behind_last(self._plan, places, way), _behind_last(self._other_plan, others, way), one, other)
+        return self._met(self._side.gone_on(places, way, one), self._other_side.gone_on(others, way, other))
 
     def _moves_from(self, node):
         if node[0] == "play":
             return [(1, ("call", deed), ("run", deed, *node[1:]), ("play",)) for deed in self._plan.open_deeds()]
         if node[0] == "run":
             _, deed, one, other = node
-            places, others = (self._plan.start_of(deed),), (self._other_plan.start_of(deed),)
-            return [(0, None, None, self._met(places, others, one, other))]
+            return [(0, None, None, self._met(self._side.begun(deed, one), self._other_side.begun(deed, other)))]
         if node[0] == "at":
             _, places, _, one, other = node
             return [(0, None, ("in", self._plan.point(places[-1])[1], AHEAD, one, other), node[:3])]
@@ -84,10 +85,10 @@ class PairGraph:
             return price, act, None, WANTED
         return price, act, None, _come(hook, well if way == WELL else failed, one, other)
 
-    def _met(self, places, others, one, other):
-        """The node where both hosts come to that go on from their last places."""
-        places, word, name, one, steps = _walked_on(self._plan, places, one)
-        others, other_word, other_name, other, other_steps = _walked_on(self._other_plan, others, other)
+    def _met(self, walked, other_walked):
+        """The node where both hosts come to."""
+        places, word, name, one, steps = walked
+        others, other_word, other_name, other, other_steps = other_walked
         if (word, name) != (other_word, other_name) or (self._sees_steps and steps != other_steps):
             return WANTED
         return ("end", name, one, other) if word == "end" else ("at", places, others, one, other)
@@ -100,25 +101,44 @@ def _come(hook, phase, one, other):
     return ("in", hook, phase, one, other)
 
 
-def _behind_last(plan, places, way):
-    """The places, with the one behind the last of them, which has ended in this way."""
-    well, failed = plan.point(places[-1])[3:]
-    return (*places[:-1], well if way == WELL else failed)
+class Side:
+    """The runs of one of the hosts, in which those by Call are parts of the run that called.
 
-
-def _walked_on(plan, places, number):
-    """Goes on from the last of the places, as far as nothing is fired and the run does not end.
-
-    Tells the places, the word and the name of the last one, the number of the state, and the steps on the way.
+    Where such a run stands is told by places: those at which it called, then the one where it is now.
     """
-    steps = []
-    while True:
-        word, name, place, number, more = plan.walk(places[-1], number)
-        steps.extend(more)
-        places = (*places[:-1], place)
-        if word == "call":
-            places = (*places, plan.start_of(name))
-        elif word == "end" and len(places) > 1:
-            places = _behind_last(plan, places[:-1], name)
-        else:
-            return places, word, name, number, tuple(steps)
+
+    def __init__(self, plan):
+        self._plan = plan
+        self._known = {}
+
+    def begun(self, deed, number):
+        """Where a run of the deed from the state comes to that goes on as far as nothing is fired.
+
+        Tells the places, the word and the name of the last one, the number of the state, and the steps on the way.
+        """
+        return self._walked((self._plan.start_of(deed),), number)
+
+    def gone_on(self, places, way, number):
+        """Where a run comes to, told likewise, if what it fired at the last of the places ended so."""
+        key = (places, way, number)
+        if key not in self._known:
+            self._known[key] = self._walked(self._behind_last(places, way), number)
+        return self._known[key]
+
+    def _walked(self, places, number):
+        steps = []
+        while True:
+            word, name, place, number, more = self._plan.walk(places[-1], number)
+            steps.extend(more)
+            places = (*places[:-1], place)
+            if word == "call":
+                places = (*places, self._plan.start_of(name))
+            elif word == "end" and len(places) > 1:
+                places = self._behind_last(places[:-1], name)
+            else:
+                return places, word, name, number, tuple(steps)
+
+    def _behind_last(self, places, way):
+        """The places, with the one behind the last of them, which has ended in this way."""
+        well, failed = self._plan.point(places[-1])[3:]
+        return (*places[:-1], well if way == WELL else failed)

@@ -22,13 +22,12 @@ class Search:
         """The least cost of a way from the start to the end; None if there is no way."""
         self._open_start(start)
         while end not in self._known[start] and len(self._found) > 0:
-            # The cheapest one comes next, so that its cost can not become less any more.
+            # The cheapest ones come next, so that their cost can not become less any more.
             cost = min(self._found, key=int)
-            here, node, step = self._found[cost].pop()
-            if len(self._found[cost]) == 0:
-                del self._found[cost]
-            if node not in self._known[here]:
-                self._know(here, node, cost, step)
+            layer = self._found.pop(cost)
+            for here, node, step in layer:
+                if node not in self._known[here]:
+                    self._know(here, node, cost, step)
         return self._known[start][end][0] if end in self._known[start] else None
 
     def steps_to(self, start, end):

@@ -33,6 +33,8 @@ class Model:
         self.values = dict(zip(host.boxes.names(), state))
         self.parts = {rank: [rows for at, rows in parts if at == rank] for rank in RANKS}
         self.trace = []
+        # The sightings of [81], with the steps, without the ends of calls from outside.
+        self.shown = []
         self.one_rows = []
 
     def state(self):
@@ -56,6 +58,7 @@ class Model:
         """Does the statement; whether it ended well."""
         if isinstance(statement, Do):
             self.trace.append(("did", statement.step))
+            self.shown.append(("did", statement.step))
         elif isinstance(statement, Put):
             self.values[statement.box] = statement.value
         elif isinstance(statement, Fire):
@@ -110,6 +113,7 @@ class Model:
 
     def visit(self, firing, hook, rank, rows, level, row):
         self.trace.append(("visited", hook, rank))
+        self.shown.append(("visited", hook, rank))
         failures, came, skipped = [], False, False
 
         def has(verb, name=""):
@@ -123,6 +127,7 @@ class Model:
                     continue
                 came = True
                 told = self.within(firing, hook, level + 1, row)
+                self.shown.append(("inner", "failed" if told else "well"))
                 if word == "swallow":
                     for core in told:
                         core.swallowed = True
@@ -135,6 +140,7 @@ class Model:
             elif word == "look":
                 row.append(act)
                 self.trace.append(("looked", hook, rank, self.state()))
+                self.shown.append(("looked", self.state()))
             elif word == "lend":
                 if has("lend", act[1]) and act[2] < self.host.boxes.size(act[1]):
                     row.append(act)
@@ -142,7 +148,7 @@ class Model:
             elif word == "door":
                 if has("door", act[1]):
                     row.append(act)
-                    self.run(act[1])
+                    self.shown.append(("door", act[1], self.run(act[1])))
             elif has(word):
                 row.append(act)
                 raise Over(firing, {"answer": "well", "fail": "failed"}[word])

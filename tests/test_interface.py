@@ -12,10 +12,32 @@ FUNCTIONS = {
         "run_parts": ["host", "deed", "state", "parts"], "as_one": ["host", "deed", "state", "parts"],
         "play_all": ["host", "play"],
     },
+    "hookvows.records": {
+        "outcomes": ["host", "deed", "state"], "record": ["host"], "is_record": ["host", "value"], "sights": ["host"],
+    },
+    "hookvows.vows": {
+        "is_kept": ["host", "vow"], "shows": ["host", "value", "vow"], "breaks": ["host", "play", "vow"],
+    },
+    "hookvows.plays": {
+        "fewest_acts": ["host", "deed", "state", "way", "end"], "script_to": ["host", "deed", "state", "way", "end"],
+        "breaking_cost": ["host", "vow"], "breaking_play": ["host", "vow"],
+    },
+    "hookvows.seals": {
+        "keeps": ["host", "vows", "powers"], "least_seals": ["host", "vows", "powers"],
+        "least_breaks": ["host", "vows", "powers"], "needed_seals": ["host", "vows", "powers"],
+        "cheapest_seals": ["host", "vows", "prices"],
+    },
+    "hookvows.alike": {
+        "sightings": ["host", "play", "steps"], "can_compare": ["one", "other"], "are_alike": ["one", "other", "steps"],
+        "parting_play": ["one", "other", "steps"],
+    },
     "hookvows.texts": {"host_text": ["host"], "read_host": ["text"]},
+    "hookvows.judge": {"is_claim": ["value"], "is_certificate": ["claim", "value"], "certificate_of": ["claim"]},
+    "hookvows.desk": {"tried": ["desk", "*commands"]},
 }
 
 STATEMENT_METHODS = {"bodies": [], "many": [], "__eq__": ["other"]}
+VOW_METHODS = {"fits": ["host"], "__eq__": ["other"]}
 
 # For each class its methods with their parameters, its properties and its class values.
 CLASSES = {
@@ -29,6 +51,40 @@ CLASSES = {
             [],
             ["MOST_BOXES", "MOST_VALUES", "MOST_STATES"],
         ),
+    },
+    "hookvows.sets": {
+        "States": (
+            {
+                "__init__": ["boxes", "states"], "states": [], "__len__": [], "__contains__": ["value"], "__and__": ["other"],
+                "__or__": ["other"], "__sub__": ["other"], "__invert__": [], "__le__": ["other"], "__lt__": ["other"],
+                "__eq__": ["other"],
+            },
+            ["boxes"],
+            [],
+        ),
+    },
+    "hookvows.vows": {
+        "Vow": (VOW_METHODS, [], []),
+        "Sure": ({"__init__": ["deed", "step", "*ways"], "ways": [], **VOW_METHODS}, ["deed", "step"], []),
+        "Once": ({"__init__": ["deed", "step"], **VOW_METHODS}, ["deed", "step"], []),
+        "Behind": ({"__init__": ["deed", "step", "first"], **VOW_METHODS}, ["deed", "step", "first"], []),
+        "Whole": ({"__init__": ["hook", "allowed"], **VOW_METHODS}, ["hook", "allowed"], []),
+        "Left": (
+            {"__init__": ["deed", "begin", "ends", "*ways"], "ways": [], **VOW_METHODS}, ["deed", "begin", "ends"], [],
+        ),
+        "Kept": ({"__init__": ["allowed"], **VOW_METHODS}, ["allowed"], []),
+    },
+    "hookvows.desk": {
+        "Desk": (
+            {
+                "__init__": ["host"], "set_host": ["host"], "__getitem__": ["at"], "__setitem__": ["at", "worth"],
+                "drop": ["name"], "__len__": [], "names": [], "seal": ["powers"], "give": ["powers"], "broken": [],
+                "undo": [], "copy": [], "do": ["command"], "do_all": ["*commands"],
+            },
+            ["host", "changes"],
+            [],
+        ),
+        "Trial": ({"__init__": ["desk"], "__enter__": [], "__exit__": ["kind", "value", "trace"]}, [], []),
     },
     "hookvows.statements": {
         "Statement": (STATEMENT_METHODS, [], []),
@@ -118,10 +174,23 @@ class TestInterface(unittest.TestCase):
                 for value in values:
                     self.assertIsInstance(own[value], int)
 
+    def test_static_methods(self):
+        kind = importlib.import_module("hookvows.sets").States
+        for name, parameters in [("every", ["boxes"]), ("where", ["boxes", "box", "*values"])]:
+            self.assertIsInstance(vars(kind)[name], staticmethod)
+            self.assertEqual(parameters_of(getattr(kind, name)), parameters)
+
+    def test_default_values(self):
+        alike = importlib.import_module("hookvows.alike")
+        for function in [alike.sightings, alike.are_alike, alike.parting_play]:
+            self.assertIs(inspect.signature(function).parameters["steps"].default, False)
+
     def test_the_package_itself_binds_nothing(self):
         package = importlib.import_module("hookvows")
-        listed = {"errors", "basics", "boxes", "statements", "hosts", "scripts", "live", "texts"}
+        listed = {"errors", "basics", "boxes", "sets", "statements", "hosts", "scripts", "live", "records", "vows", "plays"}
+        listed |= {"seals", "alike", "texts", "judge", "desk"}
         # These are no part of the interface.
-        listed |= {"bodies", "checks", "programs", "visits", "work"}
+        listed |= {"bodies", "checks", "programs", "visits", "work", "commands", "facts", "flows", "graphs", "masks", "pairs"}
+        listed |= {"phases", "plans", "routes", "search", "watches"}
         there = {name for name in vars(package) if not name.startswith("__")}
         self.assertEqual(there - listed, set())
