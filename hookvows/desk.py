@@ -59,8 +59,10 @@ class Desk:
 
     def __setitem__(self, at, worth):
         name = checked_name(at)
-        check_vow(self._page.held_host, worth)
-        self._change(self._page.held_host, {**self._page.held_vows, name: worth})
+        host = self._page.held_host
+        check_vow(host, worth)
+        vows = self._page.held_vows
+        self._change(host, {**vows, name: worth})
 
     def __iter__(self):
         raise TypeError("a desk is not iterated over")
@@ -110,21 +112,22 @@ class Desk:
 
     def do(self, command):
         """Performs the command; its answer."""
-        word, *told = read_command(self._page.held_host.boxes, command)
+        told = read_command(self._page.held_host.boxes, command)
+        word = told[0]
         if word == "broken":
             names = self.broken()
             return " ".join(names) if len(names) > 0 else "none"
         if word == "cost":
-            cost = breaking_cost(self._page.held_host, self[told[0]])
+            cost = breaking_cost(self._page.held_host, self[told[1]])
             return "kept" if cost is None else str(cost)
         if word == "outcomes":
-            return self._outcomes_told(told[0], told[1])
+            return self._outcomes_told(told[1], told[2])
         if word == "seal":
-            self.seal([told[0]])
+            self.seal([told[1]])
         elif word == "give":
-            self.give([told[0]])
+            self.give([told[1]])
         elif word == "drop":
-            self.drop(told[0])
+            self.drop(told[1])
         else:
             self.undo()
         return "done"
@@ -143,7 +146,7 @@ class Desk:
 
     def _outcomes_told(self, deed, state):
         host = self._page.held_host
-        return "; ".join([way + ": " + host.boxes.text(end) for way, end in outcomes(host, deed, state)])
+        return "; ".join([f"{way}: {host.boxes.text(end)}" for way, end in outcomes(host, deed, state)])
 
     def _has_vow(self, value):
         # Only a name is looked up: other values may have no hash.

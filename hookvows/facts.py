@@ -84,7 +84,7 @@ def ends_between(plan, table, between):
 
 def least_facts(plan):
     """What the least record says."""
-    table = least_table(plan, Watch())
+    table = least_table(plan)
     between = 1 << plan.first_number()
     more = between
     while more > 0:

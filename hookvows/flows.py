@@ -9,6 +9,7 @@ from hookvows.hosts import RANKS
 from hookvows.masks import image, mask_of, numbers_in, spread
 from hookvows.phases import AHEAD, ENDED_FAILED, ENDED_WELL, MANY_PHASES, RANK_OF
 from hookvows.programs import END_FAILED, END_WELL, WELL
+from hookvows.watches import Watch
 
 
 class Flow:
@@ -17,7 +18,7 @@ class Flow:
     def __init__(self, plan, watch, table):
         self._plan = plan
         self._watch = watch
-        self._table = {}
+        self._table = {deed: list(pairs) for deed, pairs in table.items()}
         self._points = plan.points()
         self._many = plan.many()
         self._spots = self._many * watch.many_marks()
@@ -30,12 +31,6 @@ class Flow:
         self._doors = {}
         self._following = {}
         self._fired = {}
-        self.use(table)
-
-    def use(self, table):
-        """Takes another table."""
-        self._table = {deed: list(pairs) for deed, pairs in table.items()}
-        self.forget()
 
     def forget(self):
         """Forgets what was reckoned with what the table said up to now."""
@@ -205,10 +200,10 @@ class Flow:
         return 1 << (well if way == WELL else failed) * self._spots + mark * self._many + number
 
 
-def least_table(plan, watch):
-    """The least closed table: watch watches nothing."""
+def least_table(plan):
+    """The least closed table: nothing is said to end in any way, until all that has to be said is said."""
     table = {deed: [(0, 0) for _ in range(plan.many())] for deed in plan.deeds()}
-    flow = Flow(plan, watch, table)
+    flow = Flow(plan, Watch(), table)
     grows = True
     while grows:
         grows = False

@@ -11,13 +11,42 @@ from hookvows.programs import FAILED, WELL
 WANTED = ("wanted",)
 
 
-class HostGraph:
+class Graph:
+    """What the graphs of plays have in common."""
+
+    def __init__(self, plan):
+        self._plan = plan
+        self._moves = {}
+
+    def is_end(self, node):
+        """Whether the node is an end."""
+        return node[0] == "end" or node == WANTED
+
+    def moves(self, node):
+        """The list of the moves from the node."""
+        if node not in self._moves:
+            if node[0] == "in":
+                found = [self.move_in(node, move) for move in self._plan.moves_in(node[1], node[2])]
+                self._moves[node] = [move for move in found if move is not None]
+            else:
+                self._moves[node] = self.moves_out(node)
+        return self._moves[node]
+
+    def moves_out(self, node):
+        """The list of the moves from a node that is in no firing: the graphs tell them each in its own way."""
+        return []
+
+    def move_in(self, node, move):
+        """The move from a node in a firing, or None if it is of no use: likewise."""
+        return None
+
+
+class HostGraph(Graph):
     """The graph of the plays of the host of a plan, with the marks of a watch."""
 
     def __init__(self, plan, watch):
-        self._plan = plan
+        super().__init__(plan)
         self._watch = watch
-        self._moves = {}
 
     def start_of_plays(self):
         """The node ahead of the first call."""
@@ -30,16 +59,6 @@ class HostGraph:
     def end_of_runs(self, way, state):
         """The end of runs that end so."""
         return ("end", way, None, self._plan.number_of(state))
-
-    def is_end(self, node):
-        """Whether the node is an end."""
-        return node[0] == "end" or node == WANTED
-
-    def moves(self, node):
-        """The list of the moves from the node."""
-        if node not in self._moves:
-            self._moves[node] = self._moves_from(node)
-        return self._moves[node]
 
     def behind(self, key, end):
         """The node behind this end of what is within, for the key of a move."""
@@ -55,7 +74,8 @@ class HostGraph:
         # The mark of a run is not changed by the runs that it calls.
         return self._arrived(deed, well if way == WELL else failed, mark if word == "fire" else marked, number)
 
-    def _moves_from(self, node):
+    def moves_out(self, node):
+        """The list of the moves from a node that is in no firing."""
         if node[0] == "play":
             return [(1, ("call", deed), ("run", deed, node[1]), ("play",)) for deed in self._plan.open_deeds()]
         if node[0] == "run":
@@ -64,17 +84,13 @@ class HostGraph:
             if deed == self._watch.watched_deed():
                 mark = self._watch.mark_at(self._plan.state_of(number))
             return [(0, None, None, self._arrived(deed, self._plan.start_of(deed), mark, number))]
-        if node[0] == "at":
-            _, _, place, mark, number = node
-            word, name = self._plan.point(place)[:2]
-            within = ("in", name, AHEAD, mark, number) if word == "fire" else ("run", name, number)
-            return [(0, None, within, node[:4])]
-        _, hook, phase, mark, number = node
-        found = [self._move_in(node, move) for move in self._plan.moves_in(hook, phase)]
-        return [move for move in found if move is not None]
+        _, _, place, mark, number = node
+        word, name = self._plan.point(place)[:2]
+        within = ("in", name, AHEAD, mark, number) if word == "fire" else ("run", name, number)
+        return [(0, None, within, node[:4])]
 
-    def _move_in(self, node, move):
-        """The move in a firing from the node; None if it is of no use."""
+    def move_in(self, node, move):
+        """The move from a node in a firing; None if it is of no use."""
         _, hook, phase, mark, number = node
         act, word, well, failed = move
         price = 0 if act is None else 1

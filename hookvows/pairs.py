@@ -6,35 +6,24 @@ WANTED. A call by Call shows nothing, so that runs by Call are a part of the run
 one, other) both hosts fire the same hook, each at the last of its places; ahead of it stand those at which it called.
 """
 
-from hookvows.graphs import WANTED
+from hookvows.graphs import WANTED, Graph
 from hookvows.phases import AHEAD, ENDED_FAILED, ENDED_WELL
 from hookvows.programs import FAILED, WELL
 
 
-class PairGraph:
+class PairGraph(Graph):
     """The graph of the plays of the hosts of two plans, which can be compared."""
 
     def __init__(self, plan, other_plan, sees_steps):
-        self._plan = plan
+        super().__init__(plan)
         self._other_plan = other_plan
         self._side = Side(plan)
         self._other_side = Side(other_plan)
         self._sees_steps = sees_steps
-        self._moves = {}
 
     def start_of_plays(self):
         """The node ahead of the first call."""
         return ("play", self._plan.first_number(), self._other_plan.first_number())
-
-    def is_end(self, node):
-        """Whether the node is an end."""
-        return node[0] == "end" or node == WANTED
-
-    def moves(self, node):
-        """The list of the moves from the node."""
-        if node not in self._moves:
-            self._moves[node] = self._moves_from(node)
-        return self._moves[node]
 
     def behind(self, key, end):
         """The node behind this end of what is within, for the key of a move."""
@@ -48,21 +37,18 @@ class PairGraph:
         _, places, others = key
         return self._met(self._side.gone_on(places, way, one), self._other_side.gone_on(others, way, other))
 
-    def _moves_from(self, node):
+    def moves_out(self, node):
+        """The list of the moves from a node that is in no firing."""
         if node[0] == "play":
             return [(1, ("call", deed), ("run", deed, *node[1:]), ("play",)) for deed in self._plan.open_deeds()]
         if node[0] == "run":
             _, deed, one, other = node
             return [(0, None, None, self._met(self._side.begun(deed, one), self._other_side.begun(deed, other)))]
-        if node[0] == "at":
-            _, places, _, one, other = node
-            return [(0, None, ("in", self._plan.point(places[-1])[1], AHEAD, one, other), node[:3])]
-        _, hook, phase, one, other = node
-        found = [self._move_in(node, move) for move in self._plan.moves_in(hook, phase)]
-        return [move for move in found if move is not None]
+        _, places, _, one, other = node
+        return [(0, None, ("in", self._plan.point(places[-1])[1], AHEAD, one, other), node[:3])]
 
-    def _move_in(self, node, move):
-        """The move in a firing from the node; None if it is of no use."""
+    def move_in(self, node, move):
+        """The move from a node in a firing; None if it is of no use."""
         _, hook, phase, one, other = node
         act, word, well, failed = move
         if word == "look":

@@ -6,7 +6,6 @@ from hookvows.flows import least_table
 from hookvows.masks import numbers_in
 from hookvows.plans import Plan
 from hookvows.programs import FAILED, WELL
-from hookvows.watches import Watch
 
 
 def outcomes(host, deed, state):
@@ -15,7 +14,7 @@ def outcomes(host, deed, state):
     check_deed(host, deed)
     check_state(host, state)
     plan = Plan(host)
-    return _ends_listed(plan, least_table(plan, Watch())[deed][plan.number_of(state)])
+    return _ends_listed(plan, least_table(plan)[deed][plan.number_of(state)])
 
 
 def record(host):

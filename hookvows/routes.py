@@ -31,7 +31,7 @@ class Route:
         elif act is not None:
             self._rows[self._visits[-1]].append(act)
 
-    def turn(self, node, behind):
+    def pass_on(self, node, behind):
         """Goes on from one node to the one behind: a visit at the next rank may begin there."""
         if node[0] == "in" and behind[0] == "in" and RANK_OF[node[2]] != RANK_OF[behind[2]]:
             self.leave(node)
@@ -62,7 +62,7 @@ def route_of(search, start, end):
         node, act, within, last, behind = steps[done]
         route.act(node, act)
         if within is None:
-            route.turn(node, behind)
+            route.pass_on(node, behind)
         else:
             route.enter(within)
             frames.append((within, search.steps_to(within, last), 0))

@@ -56,7 +56,7 @@ class States:
 
     def __or__(self, other):
         self._check_other(other)
-        return States(self._boxes, [*self._kept, *other.states()])
+        return States(self._boxes, [*self._kept, *other._kept])
 
     def __sub__(self, other):
         self._check_other(other)

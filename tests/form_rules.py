@@ -334,3 +334,64 @@ def default_values(trees):
             if not all(isinstance(part, ast.Constant) for part in parts):
                 found.append(place(file_name, value))
     return found
+
+
+def static_names(trees):
+    """L5: the name of a static method is no other method, property, attribute or class value, and none of a value; it
+    is called off a class, an object or self, and not read without a call."""
+    statics = {method.name for kind in classes(trees) for method in methods(kind) if "staticmethod" in decorators(method)}
+    others = method_names(trees) | property_names(trees) | own_attributes(trees) | class_values(trees) | MEMBERS_OF_VALUES
+    found = []
+    for file_name, tree in trees.items():
+        around = parents(tree)
+        for node in ast.walk(tree):
+            if isinstance(node, ast.FunctionDef) and node.name in statics & others:
+                found.append(place(file_name, node, node.name))
+            if isinstance(node, ast.Attribute) and node.attr in statics and called_method(around[node]) != node.attr:
+                found.append(place(file_name, node))
+    return found
+
+
+def items_without_iteration(trees):
+    """L5: a class with __getitem__ has an __iter__ that raises TypeError; nothing is called keys then."""
+    found = []
+    for file_name, kind in nodes(trees, ast.ClassDef):
+        names = {method.name: method for method in methods(kind)}
+        if "__getitem__" not in names:
+            continue
+        body = names["__iter__"].body if "__iter__" in names else []
+        if len(body) != 1 or not isinstance(body[0], ast.Raise) or called_name(body[0].exc) != "TypeError":
+            found.append(place(file_name, kind, kind.name))
+        found += [(file_name, kind.lineno, "keys") for name in method_names(trees) | own_attributes(trees) if name == "keys"]
+    return found
+
+
+def parameters_of_operators(trees):
+    """L5: operators take self, and at most one more plain parameter, __setitem__ two; no defaults, no decorators."""
+    many = {"__init__": None, "__call__": None, "__exit__": None, "__setitem__": 3}
+    many |= {name: 1 for name in ["__len__", "__invert__", "__iter__", "__enter__", "__repr__", "__str__", "__bool__", "__neg__"]}
+    found = []
+    for file_name, kind in nodes(trees, ast.ClassDef):
+        for method in methods(kind):
+            wanted = many.get(method.name, 2)
+            told = method.args
+            if not method.name.startswith("__") or wanted is None:
+                continue
+            if len(told.args) != wanted or told.vararg or told.kwarg or told.kwonlyargs or told.defaults or decorators(method):
+                found.append(place(file_name, method, method.name))
+    return found
+
+
+def orders_that_meet(trees):
+    """L5, L2: no class has both directions of an order; beside a class with an order nothing comes from heapq."""
+    found = []
+    ordered = False
+    for file_name, kind in nodes(trees, ast.ClassDef):
+        names = {method.name for method in methods(kind)}
+        ordered = ordered or bool(names & {"__lt__", "__le__", "__gt__", "__ge__"})
+        if {"__lt__", "__gt__"} <= names or {"__le__", "__ge__"} <= names:
+            found.append(place(file_name, kind, kind.name))
+    for file_name, node in nodes(trees, ast.ImportFrom):
+        if ordered and node.module == "heapq":
+            found.append(place(file_name, node))
+    return found

@@ -43,3 +43,10 @@ def nested_host():
     deeds = [("zero", []), ("one", nested_body()), ("two", [Call("zero"), Fire("h2"), Last([Call("one")], [Do("end")])])]
     host = Host(Boxes({"a": 2, "b": 3}), (0, 2), deeds, hooks, ["two", "zero"], [])
     return host + host.all_powers()
+
+BIT = Boxes({"a": 2})
+
+
+def bit_host(body, powers=(), core=(), further=(), first=(0,), open_deeds=("run",)):
+    """A host with one box of two values, the deed run behind the further ones, and the hook h with this core."""
+    return Host(BIT, first, [*further, ("run", body)], {"h": core}, open_deeds, powers)

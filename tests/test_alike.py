@@ -11,15 +11,8 @@ from hookvows.scripts import Play, Script
 from hookvows.statements import Call, Do, Fail, Fire, Guard, If, Last, Put
 from tests.brute import each_play
 from tests.model import Model, random_body, random_host, random_script
-from tests.sample_hosts import nested_host, pay_host
+from tests.sample_hosts import BIT, bit_host, nested_host, pay_host
 from tests.samples import odd_values
-
-BIT = Boxes({"a": 2})
-
-
-def bit_host(body, powers=(), core=(), further=(), first=(0,), open_deeds=("run",)):
-    """A host with one box of two values, the deed run behind the further ones, and the hook h with this core."""
-    return Host(BIT, first, [*further, ("run", body)], {"h": core}, open_deeds, powers)
 
 
 def with_all(host, *without):

@@ -159,6 +159,41 @@ SAMPLES = {
         "def f(x):\n    return f'{x} of {len(x) + 1}'",
         ["def f(x):\n    return f'{x[\"a\"]}'", "def f(x):\n    return f'{x:>5}'"],
     ),
+    form_rules.static_names: (
+        "class A:\n    @staticmethod\n    def every(x):\n        return A()\n    def told(self):\n        return A.every(1), self.every(2)",
+        [
+            "class A:\n    @staticmethod\n    def every(x):\n        return x\nclass B:\n    def every(self):\n        return 1",
+            "class A:\n    @staticmethod\n    def every(x):\n        return x\ndef f(x):\n    x.every = 1",
+            "class A:\n    @staticmethod\n    def every(x):\n        return x\ndef f(x):\n    return f(A.every)",
+            "class A:\n    @staticmethod\n    def count(x):\n        return x",
+        ],
+    ),
+    form_rules.items_without_iteration: (
+        "class A:\n    def __getitem__(self, at):\n        return at\n    def __iter__(self):\n        raise TypeError('no')",
+        [
+            "class A:\n    def __getitem__(self, at):\n        return at",
+            "class A:\n    def __getitem__(self, at):\n        return at\n    def __iter__(self):\n        return iter(self.a)",
+            "class A:\n    def __getitem__(self, at):\n        return at\n    def __iter__(self):\n        raise TypeError('no')\n"
+            "    def keys(self):\n        return 1",
+        ],
+    ),
+    form_rules.parameters_of_operators: (
+        "class A:\n    def __init__(self, *a):\n        pass\n    def __setitem__(self, at, worth):\n        pass\n"
+        "    def __and__(self, other):\n        return 1\n    def __invert__(self):\n        return 1",
+        [
+            "class A:\n    def __and__(self, other=1):\n        return 1", "class A:\n    def __getitem__(self, *at):\n        return 1",
+            "class A:\n    def __setitem__(self, at):\n        pass", "class A:\n    @staticmethod\n    def __le__(a, b):\n        return 1",
+            "class A:\n    def __invert__(self, other):\n        return 1", "class A:\n    def __contains__(self, x, y):\n        return 1",
+        ],
+    ),
+    form_rules.orders_that_meet: (
+        "class A:\n    def __lt__(self, other):\n        return 1\n    def __le__(self, other):\n        return 1",
+        [
+            "class A:\n    def __lt__(self, other):\n        return 1\n    def __gt__(self, other):\n        return 1",
+            "class A:\n    def __le__(self, other):\n        return 1\n    def __ge__(self, other):\n        return 1",
+            "from heapq import heappush\nclass A:\n    def __lt__(self, other):\n        return 1",
+        ],
+    ),
     form_rules.default_values: (
         "def f(x, y=1, z=(), *w, v=None):\n    pass", ["def f(x=[]):\n    pass", "def f(x=f()):\n    pass", "def f(*, x={}):\n    pass"],
     ),

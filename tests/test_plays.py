@@ -15,20 +15,14 @@ from hookvows.statements import Call, Do, Fail, Fire, Guard, If, Put
 from hookvows.vows import Behind, Kept, Left, Once, Sure, Whole, breaks, is_kept
 from tests.brute import each_play, each_script
 from tests.model import random_host
-from tests.sample_hosts import pay_host
+from tests.sample_hosts import BIT, bit_host, pay_host
 from tests.sample_vows import random_vows
 from tests.samples import WRONG_NAMES, AlwaysEqual, no_strings, odd_values
 
-BIT = Boxes({"a": 2})
 ZERO = States(BIT, [(0,)])
 ONE = States(BIT, [(1,)])
 ALL = States.every(BIT)
 NONE = States(BIT, [])
-
-
-def bit_host(body, powers=(), core=(), further=(), first=(0,), open_deeds=("run",)):
-    """A host with one box of two values, the deed run behind the further ones, and the hook h with this core."""
-    return Host(BIT, first, [*further, ("run", body)], {"h": core}, open_deeds, powers)
 
 
 def all_bit_host(body, core=(), further=(), first=(0,), without=()):

@@ -11,15 +11,8 @@ from hookvows.records import is_record, outcomes, record, sights
 from hookvows.scripts import Script
 from hookvows.statements import Call, Do, Fail, Fire, Guard, If, Last, Put
 from tests.model import random_host, random_parts, random_script
-from tests.sample_hosts import free_host, nested_host, pay_host
+from tests.sample_hosts import BIT, bit_host, free_host, nested_host, pay_host
 from tests.samples import WRONG_NAMES, AlwaysEqual, NeverEqual, containers, no_strings, odd_values
-
-BIT = Boxes({"a": 2})
-
-
-def bit_host(body, powers=(), core=(), further=(), first=(0,), open_deeds=("run",)):
-    """A host with one box of two values, the deed run behind the further ones, and the hook h with this core."""
-    return Host(BIT, first, [*further, ("run", body)], {"h": core}, open_deeds, powers)
 
 
 class TestOutcomes(unittest.TestCase):

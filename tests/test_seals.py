@@ -10,8 +10,8 @@ from hookvows.hosts import Host
 from hookvows.records import record
 from hookvows.seals import cheapest_seals, keeps, least_breaks, least_seals, needed_seals
 from hookvows.sets import States
-from hookvows.statements import Call, Do, Fail, Fire, Guard, Put
-from hookvows.vows import Behind, Kept, Left, Once, Sure, Whole, is_kept
+from hookvows.statements import Do, Fail, Fire, Guard, Put
+from hookvows.vows import Kept, Left, Once, Sure, Whole, is_kept
 from tests.model import random_host
 from tests.sample_hosts import pay_host
 from tests.sample_vows import random_vows

@@ -13,20 +13,14 @@ from hookvows.sets import States
 from hookvows.statements import Call, Do, Fail, Fire, Guard, Last, Put
 from hookvows.vows import Behind, Kept, Left, Once, Sure, Vow, Whole, breaks, is_kept, shows
 from tests.model import random_act, random_host, random_script
-from tests.sample_hosts import pay_host
+from tests.sample_hosts import BIT, bit_host, pay_host
 from tests.sample_vows import random_vows
 from tests.samples import RIGHT_NAMES, WRONG_NAMES, AlwaysEqual, NeverEqual, containers, no_strings, odd_values
 
-BIT = Boxes({"a": 2})
 ZERO = States(BIT, [(0,)])
 ONE = States(BIT, [(1,)])
 ALL = States.every(BIT)
 NONE = States(BIT, [])
-
-
-def bit_host(body, powers=(), core=(), further=(), first=(0,), open_deeds=("run",)):
-    """A host with one box of two values, the deed run behind the further ones, and the hook h with this core."""
-    return Host(BIT, first, [*further, ("run", body)], {"h": core}, open_deeds, powers)
 
 
 def one_of_each():
