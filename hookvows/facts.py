@@ -134,15 +134,16 @@ def _is_key(plan, value):
 
 def _ends_told(plan, value):
     """The masks of the ends in any value; None if it is no list of different ends."""
-    if not is_list(value) or not all([_is_end(plan, end) for end in value]):
+    if not is_list(value) or not all([_is_end(end) for end in value]):
         return None
     well = _states_told(plan, [end[1] for end in value if end[0] == WELL])
     failed = _states_told(plan, [end[1] for end in value if end[0] == FAILED])
     return None if well is None or failed is None else (well, failed)
 
 
-def _is_end(plan, value):
-    return isinstance(value, tuple) and len(value) == 2 and is_way(value[0]) and plan.has_state(value[1])
+def _is_end(value):
+    # The states are told apart from all else when their mask is made.
+    return isinstance(value, tuple) and len(value) == 2 and is_way(value[0])
 
 
 def _entries_told(plan, value):

@@ -48,9 +48,8 @@ class Route:
 
 
 def route_of(search, start, end):
-    """The play of the way that the search has found from the start to the end."""
+    """The play of the way that the search has found from the start, which is in no firing, to the end."""
     route = Route()
-    route.enter(start)
     # What is open within one another: its start, its steps, and how many of them have been done.
     frames = [(start, search.steps_to(start, end), 0)]
     while len(frames) > 0:

@@ -6,8 +6,12 @@ import unittest
 from hookvows.alike import are_alike, can_compare, parting_play, sightings
 from hookvows.boxes import Boxes
 from hookvows.errors import InvalidDeed, InvalidHost, InvalidPlay, OtherHosts, TooMany
+from hookvows.graphs import WANTED
 from hookvows.hosts import RANKS, Host
+from hookvows.pairs import PairGraph
+from hookvows.plans import Plan
 from hookvows.scripts import Play, Script
+from hookvows.search import Search
 from hookvows.statements import Call, Do, Fail, Fire, Guard, If, Last, Put
 from tests.brute import each_play
 from tests.model import Model, random_body, random_host, random_script
@@ -340,6 +344,10 @@ class TestAlike(unittest.TestCase):
                 play = parting_play(one, other, steps)
                 found[play is None] += 1
                 self.assertEqual(are_alike(one, other, steps), play is None)
+                graph = PairGraph(Plan(one), Plan(other), steps)
+                # What the search reckons is what the play costs.
+                cost = Search(graph).least_cost(graph.start_of_plays(), WANTED)
+                self.assertEqual(cost, None if play is None else play.cost)
                 if play is not None:
                     self.assertNotEqual(sightings(one, play, steps), sightings(other, play, steps))
                 for _ in range(4):
@@ -366,6 +374,41 @@ class TestAlike(unittest.TestCase):
                 costs.append(least)
         self.assertEqual(set(costs), {None, 1, 2})
         self.assertGreater(len(costs), 20)
+
+    def tiny_pairs(self, seeds):
+        """Hosts of one hook and few powers that can be compared."""
+        for seed in seeds:
+            random_one = random.Random(seed)
+            names = ["run", "low"][:random_one.randint(1, 2)]
+            boxes = Boxes({"a": random_one.choice([2, 2, 3])})
+            bodies = [random_body(random_one, boxes, names[:at], ["h"], 2, 3) for at in range(len(names))]
+            core = random_body(random_one, boxes, [], [], 1, 2)
+            if sum(row.many() for body in [core, *bodies] for row in body) > 15:
+                continue
+            host = Host(boxes, (0,), list(zip(names, bodies)), {"h": core}, names[:random_one.randint(1, 2)], [])
+            host = host + random_one.sample(host.all_powers(), random_one.randint(1, 4))
+            deeds, hooks, first = changed(host, random_one)
+            try:
+                yield random_one, host, Host(boxes, first, deeds, hooks, host.open_deeds(), host.powers())
+            except (InvalidDeed, TooMany):
+                continue
+
+    def test_no_cheaper_play_parts_tiny_hosts(self):
+        costs = {}
+        for random_one, one, other in self.tiny_pairs(range(1500)):
+            steps = random_one.random() < 0.3
+            play = parting_play(one, other, steps)
+            cost = None if play is None else play.cost
+            # Most are alike, or parted by one call.
+            if cost == 1 or (cost is None and random_one.random() < 0.9):
+                continue
+            least = None
+            for tried in each_play([one, other], 3):
+                if (least is None or tried.cost < least) and sightings(one, tried, steps) != sightings(other, tried, steps):
+                    least = tried.cost
+            self.assertEqual(least, cost if cost is not None and cost < 4 else None)
+            costs[cost] = costs.get(cost, 0) + 1
+        self.assertTrue({None, 2, 3} <= set(costs))
 
     def test_no_cheaper_play_with_three(self):
         rest = [Put("a", 1), Fire("h"), Put("a", 0)]

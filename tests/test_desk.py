@@ -117,6 +117,8 @@ class TestDesk(unittest.TestCase):
         for value in [None, desk, pay_host().boxes, AlwaysEqual(), *odd_values()]:
             self.assert_raised(InvalidHost, value, desk.set_host, value)
             self.assert_raised(InvalidHost, value, setattr, desk, "host", value)
+            # Without vows there is none that could not fit.
+            self.assert_raised(InvalidHost, value, Desk(pay_host()).set_host, value)
         self.assertEqual(desk.changes, 6)
 
     def test_a_host_that_some_vow_does_not_fit(self):

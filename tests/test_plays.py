@@ -75,6 +75,12 @@ class TestFewestActs(unittest.TestCase):
         host = bit_host([Fire("h")], [("h", "around", "lend", "a"), ("h", "behind", "lend", "a")], [Put("a", 1)])
         self.assertEqual(self.costs(host)["well", 0], 1)
 
+    def test_to_come_again_and_to_swallow(self):
+        core = [If("a", 0, [Put("a", 1)], [Put("a", 0), Fail()])]
+        host = bit_host([Fire("h")], [("h", "around", "again", ""), ("h", "around", "swallow", "")], core)
+        self.assertEqual(self.costs(host), {("well", 0): 2, ("well", 1): 0, ("failed", 0): 2, ("failed", 1): 3})
+        self.assertEqual(script_to(host, "run", (0,), "well", (0,)).rows()[1][1], ("swallow",))
+
     def test_acts_within_doors_count(self):
         further = [("low", [Fire("h"), Put("a", 1)])]
         host = bit_host([Fire("h")], [("h", "ahead", "door", "low"), ("h", "behind", "fail", "")], further=further)

@@ -55,6 +55,16 @@ class TestOutcomes(unittest.TestCase):
         both = [("h", "around", "again"), ("h", "around", "swallow")]
         self.assertEqual(self.ends([Fire("h")], *both, core=core), [("failed", (1,)), ("well", (1,))])
 
+    def test_a_later_failure_of_the_core_is_swallowed_by_coming_again(self):
+        core = [If("a", 0, [Put("a", 1)], [Put("a", 0), Fail()])]
+        again, swallow = ("h", "around", "again"), ("h", "around", "swallow")
+        self.assertEqual(self.ends([Fire("h")], again, core=core), [("failed", (0,)), ("failed", (1,)), ("well", (1,))])
+        self.assertEqual(self.ends([Fire("h")], swallow, core=core), [("well", (1,))])
+        # The core comes well, and then fails, which is swallowed.
+        self.assertEqual(
+            self.ends([Fire("h")], again, swallow, core=core), [(way, (a,)) for way in ["failed", "well"] for a in [0, 1]]
+        )
+
     def test_behind_comes_only_if_all_ahead_of_it_ended_well(self):
         lend = ("h", "behind", "lend", "a")
         self.assertEqual(self.ends([Fire("h")], lend, core=[Fail()]), [("failed", (0,))])
