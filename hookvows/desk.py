@@ -171,15 +171,22 @@ class Trial:
     def __init__(self, desk):
         self._desk = desk
         self._past = None
+        # What is brought back next.
+        self._then = None
 
     def __enter__(self):
         self._past = Past(self._desk.page(), self._past)
         return self._desk
 
     def __exit__(self, kind, value, trace):
+        past = self._past
+        self._then = past.page_then
+        self._past = past.outer
+        self._bring_back()
+
+    def _bring_back(self):
         desk = self._desk
-        desk._page = self._past.page_then
-        self._past = self._past.outer
+        desk._page = self._then
 
 
 def tried(desk, *commands):

@@ -152,27 +152,42 @@ def special_methods_without_return(trees):
     ]
 
 
+def rows_that_do_more(file_name, function):
+    """The rows of a function that do more than to assign attributes, and one name off self."""
+    found, taken = [], 0
+    for node in function.body:
+        wrong = not isinstance(node, ast.Assign) or len(node.targets) > 1
+        if not wrong:
+            target, value = node.targets[0], node.value
+            # An attribute is one off a name: more is never needed.
+            plain = isinstance(value, (ast.Name, ast.Constant))
+            plain = plain or isinstance(value, ast.Attribute) and isinstance(value.value, ast.Name)
+            if isinstance(target, ast.Name):
+                taken += 1
+                wrong = taken > 1 or not ast.unparse(value).startswith("self.") or not plain
+            else:
+                wrong = not isinstance(target, ast.Attribute) or not isinstance(target.value, ast.Name) or not plain
+        if wrong:
+            found.append(place(file_name, node))
+    return found
+
+
 def exits_that_do_more(trees):
-    """L6: __exit__ assigns attributes and one name off self, and does no more."""
+    """L6: __exit__ assigns attributes and one name off self, and does no more; it may call a method that does likewise."""
     found = []
-    for file_name, function in nodes(trees, ast.FunctionDef):
-        if function.name != "__exit__":
+    for file_name, kind in nodes(trees, ast.ClassDef):
+        own = {method.name: method for method in methods(kind)}
+        if "__exit__" not in own:
             continue
-        taken = 0
-        for node in function.body:
-            wrong = not isinstance(node, ast.Assign) or len(node.targets) > 1
-            if not wrong:
-                target, value = node.targets[0], node.value
-                plain = isinstance(value, (ast.Attribute, ast.Name, ast.Constant))
-                if isinstance(target, ast.Name):
-                    taken += 1
-                    wrong = taken > 1 or not ast.unparse(value).startswith("self.")
-                else:
-                    wrong = not isinstance(target, ast.Attribute) or not isinstance(target.value, ast.Name) or not plain
-            if wrong:
-                found.append(place(file_name, node))
-        told = [argument.arg for argument in function.args.args]
-        if len(told) != 4 or {node.id for node in ast.walk(function) if isinstance(node, ast.Name)} & set(told[2:]):
+        function = own["__exit__"]
+        called = {f"self.{name}()": method for name, method in own.items() if len(method.args.args) == 1}
+        told = {ast.unparse(node): node for node in function.body if isinstance(node, ast.Expr)}
+        found += [row for row in rows_that_do_more(file_name, function) if row[2] not in called]
+        for text in told:
+            if text in called:
+                found += rows_that_do_more(file_name, called[text])
+        names = [argument.arg for argument in function.args.args]
+        if len(names) != 4 or {node.id for node in ast.walk(function) if isinstance(node, ast.Name)} & set(names[2:]):
             found.append(place(file_name, function, function.name))
     return found
 

@@ -222,8 +222,13 @@ SAMPLES = {
         "class A:\n    def __eq__(self, other):\n        return True", ["class A:\n    def __eq__(self, other):\n        if other:\n            return True"],
     ),
     form_effects.exits_that_do_more: (
-        "class A:\n    def __exit__(self, kind, value, trace):\n        net = self.net\n        net.there = False\n        self.net = net.outer",
+        "class A:\n    def __exit__(self, kind, value, trace):\n        net = self.net\n        net.there = False\n        self.net = net.outer\n"
+        "        self.shut()\n    def shut(self):\n        rows = self.rows\n        rows.now = self.now",
         [
+            "class A:\n    def __exit__(self, kind, value, trace):\n        self.net = self.net.outer",
+            "class A:\n    def __exit__(self, kind, value, trace):\n        self.shut()\n    def shut(self):\n        self.rows.pop()",
+            "class A:\n    def __exit__(self, kind, value, trace):\n        self.shut(1)\n    def shut(self, a):\n        self.rows = a",
+            "class A:\n    def __exit__(self, kind, value, trace):\n        self.shut()",
             "class A:\n    def __exit__(self, kind, value, trace):\n        self.net.remove(1)",
             "class A:\n    def __exit__(self, kind, value, trace):\n        self.net = value",
             "class A:\n    def __exit__(self, kind, value, trace):\n        self.net = self.f()",
