@@ -1,5 +1,6 @@
 """Promises [81], [82] and the interface of hookvows/alike.py: sightings, and hosts that are alike."""
 
+import itertools
 import random
 import unittest
 
@@ -223,7 +224,9 @@ class TestCanCompare(unittest.TestCase):
                     self.assertIs(caught.exception.value, value)
 
 
-class TestAlike(unittest.TestCase):
+class Parting:
+    """What is asked of hosts that are alike or not."""
+
     def assert_alike(self, one, other, steps=False):
         for pair in [(one, other), (other, one)]:
             self.assertIs(are_alike(*pair, steps), True)
@@ -238,6 +241,13 @@ class TestAlike(unittest.TestCase):
             self.assertEqual(play.cost, cost)
             self.assertEqual(parting_play(*pair, steps), play)
 
+    def assert_no_play_parts(self, most, one, other, steps=False):
+        """No play that costs at most so much shows something else at both hosts."""
+        for tried in each_play([one, other], most):
+            self.assertEqual(sightings(one, tried, steps), sightings(other, tried, steps))
+
+
+class TestAlike(Parting, unittest.TestCase):
     def test_a_host_and_itself(self):
         for host in [pay_host(), nested_host(), bit_host([]), *[random_host(seed) for seed in range(60)]]:
             self.assert_alike(host, host)
@@ -420,9 +430,7 @@ class TestAlike(unittest.TestCase):
         ]
         for (one, other), wanted in couples:
             self.assert_parted(wanted, one, other)
-            for tried in each_play([one, other], 3):
-                if tried.cost < wanted:
-                    self.assertEqual(sightings(one, tried), sightings(other, tried))
+            self.assert_no_play_parts(wanted - 1, one, other)
 
     def test_random_bodies_that_are_split_by_nothing(self):
         # Each body stands within others that do the same.
@@ -442,3 +450,184 @@ class TestAlike(unittest.TestCase):
         self.assertIsNone(parting_play(one=one, other=other, steps=False))
         self.assertEqual(parting_play(one, other, steps=True), Play(["run"], Script()))
         self.assertEqual(len(random_body(random.Random(0), BIT, [], [], 0, 0)), 0)
+
+
+def did(word):
+    """A body that does a step for each letter."""
+    return [Do(letter) for letter in word]
+
+
+def firing_host(ahead, core, failed, well="", fails=True):
+    """A host that does the steps ahead of a firing, in its core, and behind it, as this failed or ended well."""
+    core = [*did(core), Fail()] if fails else did(core)
+    return bit_host([*did(ahead), Guard([Fire("h"), *did(well)], did(failed))], core=core)
+
+
+def with_step(random_one, bodies, step):
+    """The bodies, with the step put in at some place in one of them, or in one within it."""
+    bodies = list(bodies)
+    at = random_one.randrange(len(bodies))
+    body = list(bodies[at])
+    holders = [place for place, row in enumerate(body) if row.bodies()]
+    if holders and random_one.random() < 0.6:
+        place = random_one.choice(holders)
+        inner = with_step(random_one, body[place].bodies(), step)
+        row = body[place]
+        body[place] = If(row.box, row.value, *inner) if isinstance(row, If) else row.__class__(*inner)
+    else:
+        body.insert(random_one.randint(0, len(body)), Do(step))
+    bodies[at] = body
+    return bodies
+
+
+class TestStepsThatMove(Parting, unittest.TestCase):
+    """A step counts where it stands in the whole list, not where it stands in the list of a core or of a body."""
+
+    def assert_parted_by_an_inner(self, one, other):
+        """The call alone does not part the hosts, the call and an inner do."""
+        play = Play(["run"], Script())
+        self.assertEqual(sightings(one, play, True), sightings(other, play, True))
+        play = Play(["run"], Script([], [("inner",)]))
+        self.assertNotEqual(sightings(one, play, True), sightings(other, play, True))
+        self.assert_alike(one, other)
+        self.assert_parted(2, one, other, steps=True)
+        self.assert_no_play_parts(1, one, other, steps=True)
+
+    def test_from_the_end_of_a_core_that_fails_to_behind_the_firing(self):
+        for word in ["w", "wv", "ww", "wvw"]:
+            hosts = [firing_host("", word[:at], word[at:]) for at in range(len(word) + 1)]
+            for one, other in itertools.combinations(hosts, 2):
+                self.assert_parted_by_an_inner(one, other)
+            for host in hosts:
+                self.assert_alike(host, host, steps=True)
+
+    def test_other_steps_in_the_core_and_behind_it(self):
+        couples = [
+            (("w", "v"), ("v", "w")), (("w", "v"), ("", "vw")), (("w", "v"), ("wv", "v")), (("w", ""), ("", "")),
+            (("w", "w"), ("w", "")), (("w", "w"), ("ww", "w")), (("wv", ""), ("w", "w")), (("w", ""), ("", "ww")),
+            (("v", "w"), ("w", "w")), (("", "w"), ("", "v")),
+        ]
+        for one, other in couples:
+            self.assert_parted(1, firing_host("", *one), firing_host("", *other), steps=True)
+
+    def test_from_ahead_of_a_firing_to_the_begin_of_its_core(self):
+        # The visits ahead and around stand between them.
+        for fails in [False, True]:
+            for rest in ["", "w", "v"]:
+                one, other = firing_host("w", rest, "", fails=fails), firing_host("", "w" + rest, "", fails=fails)
+                self.assert_alike(one, other)
+                self.assert_parted(1, one, other, steps=True)
+        self.assert_parted(1, firing_host("w", "", ""), firing_host("", "", "w"), steps=True)
+
+    def test_from_a_core_that_ends_well_to_behind_the_firing(self):
+        # The visit behind stands between them.
+        one, other = firing_host("", "w", "", fails=False), firing_host("", "", "", well="w", fails=False)
+        self.assert_alike(one, other)
+        self.assert_parted(1, one, other, steps=True)
+        # The body behind is done in either way, but the core fails at one of the hosts alone.
+        hosts = [bit_host([Guard([Last([Fire("h")], did(behind))])], core=core)
+                 for behind, core in [("", did("w")), ("w", []), ("", [*did("w"), Fail()]), ("w", [Fail()])]]
+        for one, other in itertools.combinations(hosts[:3], 2):
+            self.assert_parted(1, one, other, steps=True)
+        for host in hosts[:2]:
+            self.assert_parted(1, host, hosts[3], steps=True)
+        self.assert_parted_by_an_inner(*hosts[2:])
+
+    def test_whatever_is_let(self):
+        one, other = firing_host("", "w", ""), firing_host("", "", "w")
+        for power in one.all_powers():
+            self.assert_parted(2, one + [power], other + [power], steps=True)
+        self.assert_parted(2, with_all(one), with_all(other), steps=True)
+
+    def test_behind_calls(self):
+        low = [("low", [Fire("h")])]
+        one = bit_host([Guard([Call("low")], did("w"))], core=[Fail()], further=low)
+        other = bit_host([Guard([Call("low")])], core=[*did("w"), Fail()], further=low)
+        self.assert_parted_by_an_inner(one, other)
+        # Here the run by Call does it: this is the same as if it is done behind the Call.
+        low = [("low", [Guard([Fire("h")], [*did("w"), Fail()])])]
+        third = bit_host([Guard([Call("low")])], core=[Fail()], further=low)
+        self.assert_parted_by_an_inner(other, third)
+        self.assert_alike(one, third, steps=True)
+
+    def test_runs_that_fail(self):
+        one = bit_host([Last([Fire("h")], did("w"))], core=[Fail()])
+        other = bit_host([Fire("h")], core=[*did("w"), Fail()])
+        self.assert_parted_by_an_inner(one, other)
+        # What is shown behind the steps differs: the end of the call, or the next firing.
+        other = bit_host([Guard([Fire("h")])], core=[*did("w"), Fail()])
+        self.assert_parted(1, one, other, steps=True)
+        other = bit_host([Guard([Fire("h")]), Fire("h")], core=[*did("w"), Fail()])
+        self.assert_parted(1, one, other, steps=True)
+
+    def test_firing_behind_firing(self):
+        # The visit ahead at the second firing stands between the two.
+        core = [*did("w"), Fail()]
+        one = bit_host([Guard([Fire("h")], did("v")), Guard([Fire("h")])], core=core)
+        other = bit_host([Guard([Fire("h")]), Guard([Fire("h")], did("v"))], core=core)
+        self.assert_parted(1, one, other, steps=True)
+        # At the first firing both do the same steps, ahead of the second one.
+        one = bit_host([Put("a", 0), Guard([Fire("h")], did("wv")), Put("a", 1), Guard([Fire("h")])], core=[Fail()])
+        core = [If("a", 0, did("w")), Fail()]
+        other = bit_host([Put("a", 0), Guard([Fire("h")], did("v")), Put("a", 1), Guard([Fire("h")])], core=core)
+        self.assert_parted_by_an_inner(one, other)
+
+    def test_within_doors(self):
+        hosts = []
+        for behind, core in [("w", [Fail()]), ("", [*did("w"), Fail()])]:
+            deeds = [("low", [Guard([Fire("h")], did(behind))]), ("run", [Fire("g")])]
+            hosts.append(Host(BIT, (0,), deeds, {"g": [], "h": core}, ["run"], [("g", "behind", "door", "low")]))
+        self.assert_alike(*hosts)
+        # The call, the door, and an inner in the run through it.
+        self.assert_parted(3, *hosts, steps=True)
+        self.assert_no_play_parts(2, *hosts, steps=True)
+        self.assert_alike(*[host - host.powers() for host in hosts], steps=True)
+
+    def test_only_in_a_state_that_is_lent(self):
+        lend = [("h", "ahead", "lend", "a")]
+        ask = [If("a", 1, did("w"))]
+        one = bit_host([Guard([Fire("h")], ask), Put("a", 0)], lend, core=[Fail()])
+        other = bit_host([Guard([Fire("h")]), Put("a", 0)], lend, core=[*ask, Fail()])
+        self.assert_parted(3, one, other, steps=True)
+        self.assert_no_play_parts(2, one, other, steps=True)
+        self.assert_alike(one - lend, other - lend, steps=True)
+
+    def test_with_states_that_differ(self):
+        # While the states differ, a look parts the hosts as well as an inner does.
+        one = bit_host([Put("a", 1), Guard([Fire("h")], did("w")), Put("a", 0)], core=[Fail()])
+        other = bit_host([Put("a", 0), Guard([Fire("h")]), Put("a", 0)], core=[*did("w"), Fail()])
+        self.assert_parted(2, one, other)
+        self.assert_parted(2, one, other, steps=True)
+        one = bit_host([Guard([Fire("h")], [*did("w"), Put("a", 1)])], core=[Fail()])
+        other = bit_host([Guard([Fire("h")])], core=[*did("w"), Put("a", 1), Fail()])
+        self.assert_parted(2, one, other, steps=True)
+        self.assert_no_play_parts(1, one, other, steps=True)
+
+    def moved_pairs(self, seeds):
+        """Hosts that differ in the place of a step alone, or of two steps."""
+        for seed in seeds:
+            random_one = random.Random(seed)
+            names = ["low", "run"][random_one.randint(0, 1):]
+            bodies = [random_body(random_one, BIT, names[:at], ["h"], 1, 3) for at in range(len(names))]
+            bodies[-1].insert(0, Guard([Fire("h")], []))
+            bodies.append(random_body(random_one, BIT, [], [], 1, 2) + [Fail()] * random_one.randint(0, 1))
+            many = random_one.randint(0, 2)
+            two = [bodies, bodies]
+            for _ in range(random_one.randint(1, 2)):
+                two = [with_step(random_one, told, "s1") for told in two]
+            hosts = [Host(BIT, (0,), list(zip(names, told)), {"h": told[-1]}, ["run"], []) for told in two]
+            powers = random_one.sample(hosts[0].all_powers(), many)
+            yield [host + powers for host in hosts]
+
+    def test_random_hosts_whose_steps_move(self):
+        costs = {}
+        for one, other in self.moved_pairs(range(1500)):
+            play = parting_play(one, other, steps=True)
+            cost = None if play is None else play.cost
+            costs[cost] = costs.get(cost, 0) + 1
+            self.assertEqual(are_alike(one, other, steps=True), play is None)
+            if play is not None:
+                self.assertNotEqual(sightings(one, play, True), sightings(other, play, True))
+            self.assert_no_play_parts(2 if cost is None else min(cost - 1, 2), one, other, steps=True)
+        self.assertTrue({None, 1, 2, 3} <= set(costs))
+        self.assertGreater(costs[2], 20)
